@@ -1,0 +1,1 @@
+"""What no orderly program can see: rewriting the code of one thread."""

@@ -1,0 +1,1 @@
+"""Names, values, code and stretches."""
