@@ -1,7 +1,14 @@
 """Values of all the kinds that can come to a parameter, for the tests of wrong arguments."""
 
+import random
+
 from orderlymoves.base.stretches import Stretch
 from orderlymoves.errors import InvalidNumber, MoveError, Unanswered
+from orderlymoves.judge.cases import cases
+from orderlymoves.walk.ways import follow
+
+REGISTERS = ("a", "b", "c")
+CELLS = ("x", "y")
 
 
 def nested(value, deep):
@@ -18,6 +25,7 @@ def others():
         [], ["a"], ["a", "b"], [("put", "a")], [()], {}, {"a": "b"}, {"a": True}, {("p", "a"): False}, {1: [2]},
         Stretch(()), Stretch((("read", "a", "x"),), ("a",)), MoveError("a"), InvalidNumber([1]), Unanswered("p", "a"),
         [Stretch(())], nested("a", 12), nested(Stretch(()), 10), nested(nested(None, 6), 6), nested((), 9),
+        follow(Stretch(()), {}), next(cases(Stretch(()), Stretch(()))), [follow(Stretch((("put", "a"),)), {})],
     ]
 
 
@@ -55,3 +63,96 @@ def no_values():
         "f(a)g(b)", "f(a)f(", ")f(", ")(", "f)a(", "((((", "))))", "(" * 400, ")" * 400, "f(" * 200, "a" * 400,
         "f(" * 133 + "a" + ")" * 132, "f(" * 132 + "a" + ")" * 133, ", " * 200, "x." + "0" * 398,
     ]
+
+
+def no_answers():
+    """What is no dict from pairs of a test and a value to booleans."""
+    good = {("p", "a"): True, ("q", "f(x.1, get.2)"): False}
+    found = [value for value in others() if value not in ({}, {("p", "a"): False})] + tuples() + no_names() + ["a", ()]
+    for key in ("p", ("p",), ("p", "a", "b"), ("p", "a", True), (("p", "a"),), ("a b", "a"), ("get", "a"), ("p.1", "a"),
+                ("p", "get"), ("p", ""), ("p", "f(a,b)"), ("p", "x.0"), ("p", "a "), ("p", 1), (1, "a"), (None, "a"),
+                ("p", None), ("p", ("a",)), (("p",), "a"), 1, None, True, (), MoveError("p")):
+        found.append({key: True})
+        found.append({**good, key: False})
+    for answer in (0, 1, None, "yes", "True", "", (), (True,), [], [True], {}, Stretch(())):
+        found.append({("p", "a"): answer})
+        found.append({**good, ("q", "a"): answer})
+    return found
+
+
+def check_errors(test, call, told):
+    """Checks the errors of a call with wrong arguments, which come in the order of its parameters.
+
+    Each parameter is told by a good argument, wrong ones, and the error that each of these has.
+    """
+    for at, (_, wrongs, error) in enumerate(told):
+        for wrong in wrongs:
+            arguments = [good for good, _, _ in told]
+            arguments[at] = wrong
+            with test.subTest(at=at, wrong=wrong), test.assertRaises(error):
+                call(*arguments)
+            # What is wrong behind it does not matter.
+            arguments[at + 1:] = [later[1][0] for later in told[at + 1:]]
+            with test.subTest(at=at, wrong=wrong, behind=arguments[at + 1:]), test.assertRaises(error):
+                call(*arguments)
+
+
+def some_code(rng, many, deep=1):
+    """Code of so many statements, with ifs that are nested so deep."""
+    return tuple(some_statement(rng, deep) for _ in range(many))
+
+
+def some_statement(rng, deep):
+    words = ["read", "read", "write", "write", "put", "get", "set", "copy"] + ["if"] * (deep > 0)
+    word, one, other, cell = rng.choice(words), rng.choice(REGISTERS), rng.choice(REGISTERS), rng.choice(CELLS)
+    if word == "read":
+        return ("read", one, cell)
+    if word == "write":
+        return ("write", cell, one)
+    if word == "set":
+        return ("set", one, rng.choice("fg"), tuple(rng.choice(REGISTERS) for _ in range(rng.randint(0, 2))))
+    if word == "copy":
+        return ("copy", one, other)
+    if word == "if":
+        codes = [some_code(rng, rng.randint(0, 2), deep - 1) for _ in range(2)]
+        return ("if", rng.choice("pq"), one, *codes)
+    return (word, one)
+
+
+def some_change(rng, code):
+    """Code with one statement less, more or elsewhere."""
+    found = list(code) or list(some_code(rng, 1))
+    at = rng.randrange(len(found))
+    statement = found[at]
+    change = rng.choice(("drop", "double", "move", "move", "put in"))
+    if change in ("drop", "move"):
+        del found[at]
+    if change == "move":
+        found.insert(rng.randint(max(0, at - 2), min(len(found), at + 2)), statement)
+    if change == "double":
+        found.insert(at, statement)
+    if change == "put in":
+        found[at:at] = some_code(rng, 1)
+    return tuple(found)
+
+
+def some_pairs(seed, many):
+    """So many pairs of stretches that keep the same registers, the second often made of the first by changes."""
+    rng = random.Random(seed)
+    found = []
+    for _ in range(many):
+        code = some_code(rng, rng.randint(0, 6))
+        other = code
+        for _ in range(rng.randint(1, 2)):
+            other = some_change(rng, other)
+        keeps = tuple(sorted(rng.sample(REGISTERS, rng.randint(0, 2))))
+        found.append((large(code, keeps), large(other, keeps)))
+    return found
+
+
+def large(code, keeps=()):
+    """A stretch whose code may pass the bounds."""
+    found = Stretch((), keeps)
+    for statement in code[::-1]:
+        found = Stretch((statement,)) + found
+    return found

@@ -1,9 +1,13 @@
-"""The examples of the document that need names, values and stretches alone."""
+"""The examples of the document for what is there."""
 
 import unittest
 
 from orderlymoves.base.stretches import Stretch, is_code
 from orderlymoves.base.values import applied, atoms, is_name, is_value, parts, unknown
+from orderlymoves.judge.cases import cases
+from orderlymoves.judge.stand import are_same, fault, is_stand_paper, may_stand, stand_paper
+from orderlymoves.walk.cover import chain_at, chains, covered_places, covering, is_covered, write_chains
+from orderlymoves.walk.ways import follow, ways
 
 SEND = Stretch((("write", "x", "a"), ("put", "a"), ("write", "x", "b")))
 LATE = Stretch((("put", "a"), ("write", "x", "b")))
@@ -13,6 +17,13 @@ CHOICE = Stretch((
     ("read", "r", "x"),
     ("if", "p", "r", (("put", "r"),), (("set", "r", "f", ("r",)), ("write", "x", "r"))),
 ), ("r",))
+TURN = Stretch((("write", "x", "a"), ("put", "a"), ("get", "r"), ("read", "s", "x"), ("write", "x", "r")), ("s",))
+KEEP = Stretch((
+    ("read", "r", "x"), ("set", "q", "f", ("r",)), ("if", "p", "q", (("put", "r"),), (("write", "x", "q"),)),
+    ("copy", "r", "q"),
+), ("r",))
+BEHIND = Stretch((("put", "a"), ("write", "x", "a")))
+AHEAD = Stretch((("write", "x", "a"), ("put", "a")))
 
 
 class Examples(unittest.TestCase):
@@ -46,6 +57,72 @@ class Examples(unittest.TestCase):
         self.assertEqual(
             [is_code((("put", "r"),)), is_code((("show", "r"),)), is_code([]), SEND.keeping(("a",)).keeps],
             [True, False, False, ("a",)])
+
+    def test_a_way(self):
+        way = follow(SEND, {})
+        self.assertEqual(
+            [way.letters, way.accesses, way.left, way.kept],
+            [(("put", "a"),), (("write", "x", 0, "a"), ("write", "x", 1, "b")), (("x", 1, "b"),), {}])
+
+    def test_ways_of_a_stretch_with_a_test(self):
+        self.assertEqual(
+            [(way.answers, way.letters, way.kept["r"], way.left) for way in ways(CHOICE)],
+            [({("p", "x.1"): True}, (("put", "x.1"),), "x.1", ()),
+             ({("p", "x.1"): False}, (), "f(x.1)", (("x", 0, "f(x.1)"),))])
+
+    def test_a_way_with_a_private_cell(self):
+        hidden = follow(TURN, {}, private=("x",))
+        self.assertEqual(
+            [follow(TURN, {}).left, follow(TURN, {}).kept, hidden.kept, hidden.left],
+            [(("x", 0, "a"), ("x", 2, "get.1")), {"s": "x.2"}, {"s": "a"}, (("x", 2, "get.1"),)])
+
+    def test_chains_and_covered_places(self):
+        way = follow(TURN, {})
+        self.assertEqual(
+            [covered_places(way, "write", "x"), covered_places(way, "read", "x"), covering(way, "read", "x", 2),
+             chains(way, "x"), write_chains(way, "x")],
+            [(0, 2), (0, 2), (1, 2), ((0,), (1, 2)), ((0,), (2,))])
+        self.assertEqual(
+            [is_covered(way, "read", "x", 1), chain_at(way, "x", 0), chain_at(way, "x", 1), chain_at(way, "x", 2),
+             is_covered(way, "read", "y", 0)],
+            [False, 1, None, 2, False])
+        self.assertEqual(
+            [covered_places(follow(stretch, {}), "read", "x") for stretch in (SEND, WAIT, EARLY)],
+            [(0, 1), (1,), (0, 1)])
+
+    def test_cases(self):
+        self.assertEqual(
+            [[case.fault for case in cases(SEND, LATE)], [case.fault for case in cases(LATE, SEND)]],
+            [[None], [None]])
+        self.assertEqual(
+            [[case.fault for case in cases(WAIT, EARLY)], [case.fault for case in cases(EARLY, WAIT)],
+             [case.covers for case in cases(EARLY, WAIT)]],
+            [[("bare", 0)], [None], [((0,),)]])
+
+    def test_cases_of_stretches_with_tests(self):
+        asked = [("p", "f(x.1)"), ("p", "x.1")]
+        self.assertEqual(
+            [[(sorted(case.answers), case.fault) for case in cases(CHOICE, KEEP)], str(next(cases(CHOICE, KEEP)))],
+            [[(asked, ("register", "r")), (asked, ("bare", 1)), (asked, ("letter", 0)), (asked, None)],
+             "case of 2 answers, 1 accesses, fault register r"])
+
+    def test_what_may_stand(self):
+        self.assertEqual(
+            [may_stand(SEND, LATE), may_stand(WAIT, EARLY), may_stand(EARLY, WAIT), are_same(SEND, LATE),
+             may_stand(WAIT, EARLY, private=("x",))],
+            [True, False, True, True, True])
+        self.assertEqual(
+            [str(fault(WAIT, EARLY)), fault(CHOICE, KEEP).fault, fault(SEND, LATE), stand_paper(EARLY, WAIT),
+             stand_paper(WAIT, EARLY)],
+            ["case of 0 answers, 0 accesses, fault bare 0", ("register", "r"), None, {(): (0,)}, None])
+        self.assertEqual(
+            [is_stand_paper(SEND, LATE, {(): (1,)}), is_stand_paper(SEND, LATE, {(): (0,)}),
+             is_stand_paper(SEND, SEND, {(): (1, 0)})],
+            [True, False, False])
+
+    def test_what_further_examples_say_of_these_modules(self):
+        self.assertEqual([may_stand(BEHIND, AHEAD), may_stand(AHEAD, BEHIND), are_same(AHEAD, BEHIND)],
+                         [True, False, False])
 
 
 if __name__ == "__main__":

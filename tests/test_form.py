@@ -150,6 +150,26 @@ class Form(unittest.TestCase):
                 if isinstance(node.func, ast.Attribute):
                     self.assertIn(node.func.attr, own | set(METHODS), (path, node.lineno))
 
+    def test_what_equality_bars(self):
+        for path in files():
+            self.assertEqual(nodes(path, ast.GeneratorExp), [], path)
+            for node in nodes(path, ast.Attribute):
+                self.assertNotEqual(node.attr, "sort", (path, node.lineno))
+
+    def test_generators_are_iterated_at_once(self):
+        generators = {node.name for path in files() for node in nodes(path, ast.FunctionDef)
+                      if any(isinstance(part, (ast.Yield, ast.YieldFrom)) for part in ast.walk(node))}
+        for path in files():
+            tree = tree_of(path)
+            good = [node.iter for node in ast.walk(tree) if isinstance(node, (ast.For, ast.comprehension))]
+            good += [node.value for node in ast.walk(tree) if isinstance(node, ast.YieldFrom)]
+            good += [node.args[0] for node in ast.walk(tree) if isinstance(node, ast.Call) and node.args
+                     and isinstance(node.func, ast.Name) and node.func.id in ("list", "tuple", "dict", "sorted")]
+            called = [node.func for node in good if isinstance(node, ast.Call)]
+            for node in ast.walk(tree):
+                if isinstance(node, ast.Name) and node.id in generators:
+                    self.assertIn(node, called, (path, node.lineno))
+
     def test_statements_and_signs(self):
         for path in files():
             self.assertEqual(nodes(path, ast.Global, ast.AsyncFunctionDef, ast.Await, ast.Div, ast.MatMult), [], path)

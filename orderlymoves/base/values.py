@@ -71,6 +71,11 @@ def applied(function, *values):
         raise InvalidOperation("a function takes at most two values")
     if not all([is_value(value) for value in values]):
         raise InvalidValue("a function takes values")
+    return written(function, values)
+
+
+def written(function, values):
+    """The text of the value of a function, for a name and values that need no check."""
     inside = ", ".join(values)
     return f"{function}({inside})"
 
