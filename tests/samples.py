@@ -5,6 +5,9 @@ import random
 from orderlymoves.base.stretches import Stretch
 from orderlymoves.errors import InvalidNumber, MoveError, Unanswered
 from orderlymoves.judge.cases import cases
+from orderlymoves.judge.witness import Surrounding
+from orderlymoves.live.desk import Desk
+from orderlymoves.play.programs import Program
 from orderlymoves.walk.ways import follow
 
 REGISTERS = ("a", "b", "c")
@@ -26,6 +29,8 @@ def others():
         Stretch(()), Stretch((("read", "a", "x"),), ("a",)), MoveError("a"), InvalidNumber([1]), Unanswered("p", "a"),
         [Stretch(())], nested("a", 12), nested(Stretch(()), 10), nested(nested(None, 6), 6), nested((), 9),
         follow(Stretch(()), {}), next(cases(Stretch(()), Stretch(()))), [follow(Stretch((("put", "a"),)), {})],
+        Program(((),)), Program(((("show", "a"),), ()), cells={"x": "a"}), Program(((),))(()), [Program(((),))],
+        Surrounding((), (), {}, {}), (Surrounding((), (), {}, {}),), Desk(Program(((),))), {"a": Desk(Program(((),)))},
     ]
 
 
@@ -156,3 +161,18 @@ def large(code, keeps=()):
     for statement in code[::-1]:
         found = Stretch((statement,)) + found
     return found
+
+
+def some_program(rng, many=2, longest=4, shows=0.4):
+    """A small program of so many threads."""
+    threads = []
+    for _ in range(many):
+        code = list(some_code(rng, rng.randint(0, longest)))
+        for _ in range(2):
+            if rng.random() < shows:
+                code.insert(rng.randint(0, len(code)), ("show", rng.choice(REGISTERS)))
+        threads.append(tuple(code))
+    cells = {cell: rng.choice(("a", "b", "f(a)", cell + ".1")) for cell in CELLS if rng.random() < 0.3}
+    pairs = [(test, value) for test in "pq" for value in ("a", "b", "c", "x.1", "f(a)", "g()")]
+    answers = {pair: rng.random() < 0.7 for pair in pairs if rng.random() < 0.5}
+    return Program(tuple(threads), cells=rng.choice((None, cells)), answers=rng.choice((None, answers)))

@@ -1,11 +1,20 @@
-"""The examples of the document for what is there."""
+"""The examples of the document."""
 
 import unittest
 
 from orderlymoves.base.stretches import Stretch, is_code
 from orderlymoves.base.values import applied, atoms, is_name, is_value, parts, unknown
+from orderlymoves.errors import InvalidOperation, ParseError, Refused
 from orderlymoves.judge.cases import cases
+from orderlymoves.judge.changes import can_drop, can_move, drops, moved, moves
 from orderlymoves.judge.stand import are_same, fault, is_stand_paper, may_stand, stand_paper
+from orderlymoves.judge.witness import Surrounding, is_witness, surrounded, witness
+from orderlymoves.lean.needs import due_writes, fewest, is_least, least, needed_reads
+from orderlymoves.live.desk import Desk
+from orderlymoves.live.pieces import exchanged, piece, private_cells
+from orderlymoves.play.programs import Program
+from orderlymoves.play.states import clash, ends, is_clash, is_orderly, outcome, states
+from orderlymoves.text.formats import read_code, read_program, read_stretch, write_program, write_stretch
 from orderlymoves.walk.cover import chain_at, chains, covered_places, covering, is_covered, write_chains
 from orderlymoves.walk.ways import follow, ways
 
@@ -22,8 +31,18 @@ KEEP = Stretch((
     ("read", "r", "x"), ("set", "q", "f", ("r",)), ("if", "p", "q", (("put", "r"),), (("write", "x", "q"),)),
     ("copy", "r", "q"),
 ), ("r",))
+PAIR = Program((SEND.code, (("get", "m"), ("read", "n", "x"), ("show", "n"))), cells={"x": "old"})
+CALM = Program((SEND.code + (("put", "b"),), (("get", "m"), ("get", "m"), ("read", "n", "x"), ("show", "n"))))
 BEHIND = Stretch((("put", "a"), ("write", "x", "a")))
 AHEAD = Stretch((("write", "x", "a"), ("put", "a")))
+LOOK = Surrounding((("get", "b"), ("read", "c", "x"), ("show", "c")), (), {"x": "old"}, {})
+TWICE = Stretch((("read", "a", "x"), ("get", "b"), ("read", "c", "x"), ("put", "c")))
+SAVE = Stretch((("read", "a", "x"), ("write", "x", "b"), ("put", "b"), ("write", "x", "a"), ("put", "a")))
+BACK = Stretch((("write", "x", "b"), ("put", "b"), ("get", "c"), ("read", "a", "x"), ("write", "y", "a")), ("a",))
+TWO = Program((
+    (("read", "a", "x"), ("write", "x", "b"), ("write", "x", "a"), ("put", "a")),
+    (("get", "c"), ("read", "d", "x"), ("show", "d")),
+))
 
 
 class Examples(unittest.TestCase):
@@ -120,9 +139,79 @@ class Examples(unittest.TestCase):
              is_stand_paper(SEND, SEND, {(): (1, 0)})],
             [True, False, False])
 
-    def test_what_further_examples_say_of_these_modules(self):
-        self.assertEqual([may_stand(BEHIND, AHEAD), may_stand(AHEAD, BEHIND), are_same(AHEAD, BEHIND)],
-                         [True, False, False])
+    def test_programs_and_runs(self):
+        run = PAIR((0, 0, 1))
+        self.assertEqual(
+            [run.cells, run.lines, run.next_steps, run.clashing, run.held(1, "m"), run.ready, len(PAIR)],
+            [{"x": "a"}, ((), ()), (("write", "x"), ("read", "x")), ((0, 1),), "a", (0, 1), 2])
+        end = PAIR((0, 0, 0, 1, 1, 1))
+        self.assertEqual(
+            [run.after(1).after(1).shown, end.shown, end.is_end, PAIR.names, str(PAIR)],
+            [((), ("a",)), ((), ("b",)), True, ("x",), "program of 2 threads, 6 statements, 1 cells"])
+        with self.assertRaises(InvalidOperation):
+            PAIR((1,))
+
+    def test_all_that_a_program_can_do(self):
+        self.assertEqual(
+            [is_orderly(PAIR), ends(PAIR), is_clash(PAIR, (0, 0, 1)), is_clash(PAIR, (0, 1)), is_clash(PAIR, ()), states(PAIR)],
+            [False, (((), ("a",)), ((), ("b",))), True, False, False, 12])
+        self.assertEqual(
+            [is_orderly(CALM), outcome(CALM), clash(CALM), is_clash(PAIR, clash(PAIR))],
+            [True, ((), ("b",)), None, True])
+
+    def test_witnesses(self):
+        found = witness(AHEAD, BEHIND)
+        self.assertEqual(
+            [witness(BEHIND, AHEAD), is_witness(AHEAD, BEHIND, found), is_witness(BEHIND, AHEAD, found)],
+            [None, True, False])
+        self.assertEqual(
+            [is_witness(AHEAD, BEHIND, LOOK), is_orderly(surrounded(AHEAD, LOOK)), is_orderly(surrounded(BEHIND, LOOK))],
+            [True, True, False])
+
+    def test_single_changes(self):
+        written_back = Stretch((("read", "a", "x"), ("write", "x", "a")))
+        self.assertEqual(
+            [can_move(BEHIND, 1, -1), can_move(AHEAD, 0, 1), can_drop(AHEAD, 0), are_same(AHEAD, BEHIND), drops(written_back)],
+            [True, False, False, False, (1,)])
+        last = Stretch((("get", "b"), ("read", "c", "x"), ("put", "c"), ("read", "a", "x")))
+        self.assertEqual(
+            [drops(TWICE), list(moves(TWICE)), moved(TWICE, 0, 3) == last],
+            [(0,), [(0, 1), (0, 2), (1, -1), (1, 1), (2, -2), (2, -1)], True])
+
+    def test_straight_stretches(self):
+        self.assertEqual(
+            [needed_reads(SAVE), due_writes(SAVE), fewest(SAVE), is_least(SAVE), is_least(least(SAVE)), can_drop(SAVE, 1)],
+            [(("x", 1),), (), {"x": (1, 0)}, False, True, True])
+        self.assertEqual(
+            [needed_reads(BACK), due_writes(BACK), fewest(BACK, private=("x", "y")), is_least(BACK)],
+            [(("x", 2),), (("x", 0, "b"), ("y", 2, "x.2")), {"x": (0, 1), "y": (0, 1)}, True])
+
+    def test_pieces(self):
+        made = exchanged(TWO, 0, 0, 3, Stretch((("read", "a", "x"),)))
+        self.assertEqual(
+            [piece(TWO, 0, 0, 3).keeps, private_cells(TWO, 0), made.threads[0]],
+            [("a",), (), (("read", "a", "x"), ("put", "a"))])
+        with self.assertRaises(Refused):
+            exchanged(TWO, 0, 2, 4, Stretch((("put", "a"), ("write", "x", "a"))))
+
+    def test_a_desk(self):
+        desk = Desk(TWO)
+        self.assertEqual(
+            [desk.learn("up", BEHIND, AHEAD), desk.exchange(0, 0, 3, Stretch((("read", "a", "x"),))), desk.shown, str(desk)],
+            [None, None, ((), ("x.1",)), "desk of 2 threads, 5 statements, 1 rules"])
+        self.assertEqual(
+            [desk.can_apply("up", 0, 0), list(desk.places("up")), desk.undo(), len(desk.program.threads[0]), desk.redo(),
+             desk.first == TWO],
+            [False, [], 1, 4, 2, True])
+
+    def test_texts(self):
+        stretch = Stretch((("if", "p", "a", (("put", "a"),), ()), ("set", "b", "f", ("a", "a"))), ("b",))
+        self.assertEqual(write_stretch(stretch), "keeps b\nif p a\nput a\nelse\nend\nset b f a a")
+        self.assertEqual(
+            [read_code("get a\nput a"), read_stretch("keeps") == Stretch(()), read_program(write_program(TWO)) == TWO],
+            [(("get", "a"), ("put", "a")), True, True])
+        with self.assertRaises(ParseError):
+            read_code("if p a\nput a\nend")
 
 
 if __name__ == "__main__":

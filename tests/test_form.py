@@ -170,6 +170,57 @@ class Form(unittest.TestCase):
                 if isinstance(node, ast.Name) and node.id in generators:
                     self.assertIn(node, called, (path, node.lineno))
 
+    def test_no_local_name_is_that_of_a_class_or_an_import(self):
+        for path in files():
+            apart = {alias.name for node in nodes(path, ast.ImportFrom) for alias in node.names}
+            apart |= {node.name for node in nodes(path, ast.ClassDef)}
+            for node in nodes(path, ast.FunctionDef, ast.Lambda):
+                found = {part.arg for part in ast.walk(node) if isinstance(part, ast.arg)}
+                found |= {part.id for part in ast.walk(node) if isinstance(part, ast.Name) and isinstance(part.ctx, ast.Store)}
+                self.assertEqual(found & apart, set(), (path, node.lineno))
+
+    def test_names_of_methods_properties_and_attributes(self):
+        methods, properties, attributes, generators = [], set(), set(), []
+        for path in files():
+            for node in nodes(path, ast.ClassDef):
+                for part in node.body:
+                    if isinstance(part, ast.FunctionDef):
+                        is_property = [ast.unparse(found) for found in part.decorator_list] == ["property"]
+                        (properties.add if is_property else methods.append)(part.name)
+            for node in nodes(path, ast.FunctionDef):
+                if any(isinstance(part, (ast.Yield, ast.YieldFrom)) for part in ast.walk(node)):
+                    generators.append(node.name)
+            attributes |= {node.attr for node in nodes(path, ast.Attribute) if isinstance(node.ctx, ast.Store)}
+        self.assertEqual((properties & set(methods), properties & attributes, set(methods) & attributes), (set(),) * 3)
+        functions = [node.name for path in files() for node in nodes(path, ast.FunctionDef)]
+        for name in generators:
+            self.assertEqual((functions.count(name), name in METHODS), (1, False))
+        self.assertEqual(properties & set(METHODS), set())
+
+    def test_errors_are_not_caught(self):
+        for path in files():
+            self.assertEqual(nodes(path, ast.Try), [], path)
+
+    def test_is_stands_beside_none(self):
+        for path in files():
+            for node in nodes(path, ast.Compare):
+                if isinstance(node.ops[0], (ast.Is, ast.IsNot)):
+                    self.assertEqual(ast.unparse(node.comparators[0]), "None", (path, node.lineno))
+
+    def test_what_leaving_a_block_does(self):
+        for path in files():
+            for node in nodes(path, ast.FunctionDef):
+                if node.name == "__exit__":
+                    for row in node.body:
+                        self.assertRegex(ast.unparse(row), r"^(\w+ = self\.\w+|\w+\.\w+ = self\.\w+)$", path)
+
+    def test_keywords_of_builtins(self):
+        allowed = ("key", "reverse", "default", "start", "strict")
+        for path in files():
+            for node in nodes(path, ast.Call):
+                if isinstance(node.func, ast.Name) and node.func.id in BUILTINS:
+                    self.assertEqual([part.arg for part in node.keywords if part.arg not in allowed], [], (path, node.lineno))
+
     def test_statements_and_signs(self):
         for path in files():
             self.assertEqual(nodes(path, ast.Global, ast.AsyncFunctionDef, ast.Await, ast.Div, ast.MatMult), [], path)

@@ -13,26 +13,30 @@ FORMS = {
     "get": ("register",),
     "put": ("register",),
     "if": ("test", "register", "code", "code"),
+    "show": ("register",),
 }
 
-
-def is_nested_code(value, depth):
-    """Whether the value is code in which ifs are nested at most so deep."""
-    return isinstance(value, tuple) and all([_is_statement(part, depth) for part in value])
+# The words of the statements that set the register behind the word.
+SETTING = ("read", "set", "copy", "get")
 
 
-def _is_statement(value, depth):
+def is_nested_code(value, depth, shows=False):
+    """Whether the value is code in which ifs are nested at most so deep, and `show` can stand only if it may."""
+    return isinstance(value, tuple) and all([_is_statement(part, depth, shows) for part in value])
+
+
+def _is_statement(value, depth, shows):
     if not isinstance(value, tuple) or value == () or not isinstance(value[0], str):
         return False
-    if value[0] not in FORMS:
+    if value[0] not in FORMS or (value[0] == "show" and not shows):
         return False
     form = FORMS[value[0]]
-    return len(value) == len(form) + 1 and all([_fits(part, role, depth) for part, role in zip(value[1:], form)])
+    return len(value) == len(form) + 1 and all([_fits(part, role, depth, shows) for part, role in zip(value[1:], form)])
 
 
-def _fits(part, role, depth):
+def _fits(part, role, depth, shows):
     if role == "code":
-        return depth > 0 and is_nested_code(part, depth - 1)
+        return depth > 0 and is_nested_code(part, depth - 1, shows)
     if role == "registers":
         return isinstance(part, tuple) and len(part) <= MAX_REGISTERS and all([is_name(name) for name in part])
     return is_name(part)
@@ -67,6 +71,29 @@ def _names_of(statement, role):
         elif known == "registers" and role == "register":
             found.extend(part)
     return found
+
+
+def used_first(code, behind=()):
+    """The set of the registers that code, and what stands behind it, uses on some path before it sets them."""
+    found = tuple(sorted(set(behind)))
+    for statement in code[::-1]:
+        if statement[0] == "if":
+            ways_on = used_first(statement[3], found) + used_first(statement[4], found)
+        else:
+            ways_on = tuple([name for name in found if name != _set_by(statement)])
+        found = tuple(sorted(set(ways_on + tuple(_used_by(statement)))))
+    return found
+
+
+def _set_by(statement):
+    """The register that a statement sets, None if it sets none."""
+    return statement[1] if statement[0] in SETTING else None
+
+
+def _used_by(statement):
+    """The registers whose values a statement itself uses."""
+    found = _names_of(statement, "register")
+    return found[1:] if statement[0] in SETTING else found
 
 
 def most_on_path(code, kind):

@@ -25,9 +25,9 @@ class Stretch:
     def __init__(self, code, keeps=()):
         if not is_code(code):
             raise InvalidStretch("a stretch has code without show")
-        if not _is_bounded(code):
+        if not is_bounded(code):
             raise InvalidStretch("the code passes a bound")
-        if not _is_kept(keeps):
+        if not is_kept(keeps):
             raise InvalidStretch("a stretch keeps a set of at most four names")
         self._code = code
         self._keeps = keeps
@@ -73,7 +73,7 @@ class Stretch:
 
     def keeping(self, names):
         """The stretch with the same code that keeps a set of names."""
-        if not _is_kept(names):
+        if not is_kept(names):
             raise InvalidOperation("a stretch keeps a set of at most four names")
         return stretch_of(self._code, names)
 
@@ -111,7 +111,7 @@ def stretch_of(code, keeps):
     return made
 
 
-def _is_bounded(code):
+def is_bounded(code):
     """Whether code is as small as that of a stretch that is passed to `Stretch`."""
     return (
         len(flattened(code)) <= MAX_STATEMENTS
@@ -122,7 +122,8 @@ def _is_bounded(code):
     )
 
 
-def _is_kept(value):
+def is_kept(value):
+    """Whether the value is a set of as many names as a stretch that is passed to `Stretch` keeps."""
     return is_set(value) and len(value) <= MAX_KEPT
 
 

@@ -23,7 +23,12 @@ FOLLOWERS = {
 
 def is_number(value, low, high):
     """Whether the value is an integer from low to high."""
-    return isinstance(value, int) and not isinstance(value, bool) and low <= value <= high
+    return is_whole(value) and low <= value <= high
+
+
+def is_whole(value):
+    """Whether the value is an integer."""
+    return isinstance(value, int) and not isinstance(value, bool)
 
 
 def is_name(value):
@@ -45,6 +50,27 @@ def is_set(value):
     )
 
 
+def spare_names(used, many):
+    """So many names that are not used, each time the same ones."""
+    found = []
+    number = 0
+    while len(found) < many:
+        name = _numbered(number)
+        if is_name(name) and name not in used:
+            found.append(name)
+        number += 1
+    return found
+
+
+def _numbered(number):
+    """The letters for a number, others for each."""
+    text = LETTERS[number % len(LETTERS)]
+    while number >= len(LETTERS):
+        number = number // len(LETTERS)
+        text = LETTERS[number % len(LETTERS)] + text
+    return text
+
+
 def is_value(value):
     """Whether the value is a value."""
     # Values can be nested deeper than calls, so this goes through the text instead of into it.
@@ -52,6 +78,21 @@ def is_value(value):
         return False
     kinds = _kinds(_pieces(value))
     return _is_in_turn(kinds) and _is_nested(kinds)
+
+
+def is_answers(value):
+    """Whether the value is a dict from pairs of a test and a value to booleans."""
+    return isinstance(value, dict) and all([_is_asked(pair) and isinstance(value[pair], bool) for pair in value])
+
+
+def _is_asked(value):
+    """Whether the value is a pair of a test and a value."""
+    return isinstance(value, tuple) and len(value) == 2 and is_name(value[0]) and is_value(value[1])
+
+
+def is_contents(value):
+    """Whether the value is a dict from names of cells to values."""
+    return isinstance(value, dict) and all([is_name(cell) and is_value(value[cell]) for cell in value])
 
 
 def unknown(name, number):

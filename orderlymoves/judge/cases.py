@@ -7,15 +7,20 @@ from orderlymoves.walk.ways import Walk, check_private, check_stretch, walks, wa
 
 def cases(one, other, *, private=()):
     """All cases of two stretches, in the order of the ways of the first one; yes comes ahead of no."""
+    check_pair(one, other, private)
+    for way in ways(one, private=private):
+        first = WalkBeside(way, way.answers)
+        for walk in walks(first, other.code):
+            yield Case(way, walk)
+
+
+def check_pair(one, other, private):
+    """Raises the errors of `cases`."""
     check_stretch(one)
     check_stretch(other)
     check_private(private)
     if one.keeps != other.keeps:
         raise InvalidOperation("both stretches keep the same registers")
-    for way in ways(one, private=private):
-        first = WalkBeside(way, way.answers)
-        for walk in walks(first, other.code):
-            yield Case(way, walk)
 
 
 class Case:
@@ -77,6 +82,7 @@ class WalkBeside(Walk):
         Walk.__init__(self, told, along.private)
         self.along = along
         self.wrong = None
+        self.refused = None
 
     def again(self, answer):
         return WalkBeside(self.along, self.further_told(answer))
@@ -99,6 +105,7 @@ class WalkBeside(Walk):
     def next_chain(self, kind, cell):
         if not is_covered(self.along, kind, cell, len(self.sent)):
             self.stop(("bare", len(self.done)))
+            self.refused = (kind, cell)
             return None
         return chain_at(self.along, cell, len(self.sent))
 

@@ -1,14 +1,14 @@
 """Ways: what a stretch does under told answers of tests."""
 
 from orderlymoves.base.stretches import Stretch
-from orderlymoves.base.values import is_name, is_set, is_value, written
+from orderlymoves.base.values import is_answers, is_set, written
 from orderlymoves.errors import InvalidOperation, InvalidStretch, Unanswered
 
 
 def follow(stretch, answers, *, private=()):
     """The way of a stretch under answers: a dict from pairs of a test and a value to booleans."""
     check_stretch(stretch)
-    if not _is_answers(answers):
+    if not is_answers(answers):
         raise InvalidOperation("answers are a dict from pairs of a test and a value to booleans")
     check_private(private)
     walk = Walk(answers, private)
@@ -229,15 +229,6 @@ def chained(accesses, letters, indices):
         else:
             found.append([index])
     return tuple([tuple(chain) for chain in found])
-
-
-def _is_answers(value):
-    return isinstance(value, dict) and all([_is_asked(pair) and isinstance(value[pair], bool) for pair in value])
-
-
-def _is_asked(value):
-    """Whether the value is a pair of a test and a value."""
-    return isinstance(value, tuple) and len(value) == 2 and is_name(value[0]) and is_value(value[1])
 
 
 def _left_by(walk):

@@ -1,0 +1,1 @@
+"""The fewest accesses that can stand for a straight stretch."""

@@ -1,0 +1,1 @@
+"""Pieces of whole programs, and a desk on which a program is rewritten."""

@@ -1,0 +1,1 @@
+"""Programs of threads, their runs, and all that they can do."""
