@@ -52,6 +52,16 @@ def no_names():
     ]
 
 
+def all_but(*kinds):
+    """Values of all kinds but objects of some classes, without good names and good sets of names."""
+    return [value for value in others() if not isinstance(value, kinds)] + tuples() + no_names()
+
+
+def all_but_numbers(*good):
+    """Values of all kinds but some integers."""
+    return [value for value in all_but() if isinstance(value, bool) or value not in good]
+
+
 def no_values():
     """Strings that are no values."""
     return [

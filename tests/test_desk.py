@@ -12,7 +12,7 @@ from orderlymoves.live.desk import Desk
 from orderlymoves.live.pieces import exchanged, piece
 from orderlymoves.play.programs import Program
 from orderlymoves.play.states import is_orderly, outcome
-from samples import check_errors, large, nested, no_names, others, some_change, some_code, some_program, tuples
+from samples import all_but, all_but_numbers, check_errors, large, nested, some_change, some_code, some_program
 
 READ = ("read", "a", "x")
 WRITE = ("write", "x", "a")
@@ -56,7 +56,8 @@ class Interface(unittest.TestCase):
         self.assertEqual((Desk.__module__, module.Desk), ("orderlymoves.live.desk", Desk))
         for name in ("program", "first", "shown", "rules"):
             self.assertIsInstance(vars(Desk)[name], property)
-        for name in ("__init__", "exchange", "learn", "forget", "can_apply", "apply", "places", "__getitem__", "__contains__",
+        for name in ("__init__", "exchange", "learn", "forget", "can_apply", "apply", "places", "__getitem__",
+            "__contains__",
                      "__iter__", "__len__", "__eq__", "__str__", "undo", "redo", "attempt", "during", "twin"):
             self.assertIn(name, vars(Desk))
 
@@ -85,11 +86,12 @@ class Desks(unittest.TestCase):
             [desk.learn("up", BEHIND, AHEAD), desk.exchange(0, 0, 3, Stretch((READ,))), desk.shown, str(desk)],
             [None, None, ((), ("x.1",)), "desk of 2 threads, 5 statements, 1 rules"])
         self.assertEqual(
-            [desk.can_apply("up", 0, 0), list(desk.places("up")), desk.undo(), len(desk.program.threads[0]), desk.redo(), desk.first == TWO],
+            [desk.can_apply("up", 0, 0), list(desk.places("up")), desk.undo(), len(desk.program.threads[0]),
+             desk.redo(), desk.first == TWO],
             [False, [], 1, 4, 2, True])
 
     def test_what_is_no_orderly_program(self):
-        for value in [value for value in others() if not isinstance(value, Program)] + tuples() + no_names() + [TWO.threads, Desk(TWO)]:
+        for value in all_but(Program) + [TWO.threads, Desk(TWO)]:
             with self.subTest(value=value), self.assertRaises(InvalidProgram):
                 Desk(value)
         with self.assertRaises(InvalidOperation):
@@ -118,7 +120,7 @@ class Desks(unittest.TestCase):
         third.learn("up", BEHIND, AHEAD)
         self.assertEqual((third.program, third.rules), (desk.program, desk.rules))
         self.assertFalse(third == desk)
-        for value in others() + tuples() + no_names() + [TWO, TWO.threads]:
+        for value in all_but() + [TWO, TWO.threads]:
             self.assertIs(desk == value, False)
             self.assertIs(desk != value, True)
 
@@ -134,7 +136,8 @@ class Desks(unittest.TestCase):
 class Rules(unittest.TestCase):
     def test_learned_and_forgotten(self):
         desk = Desk(TWO)
-        for name, *stretches, private in (("up", BEHIND, AHEAD, ()), ("any", AHEAD, BEHIND, ("x",)), ("none", EMPTY, EMPTY, ("y", "z"))):
+        for name, *stretches, private in (("up", BEHIND, AHEAD, ()), ("any", AHEAD, BEHIND, ("x",)),
+                ("none", EMPTY, EMPTY, ("y", "z"))):
             self.assertIsNone(desk.learn(name, *stretches, private=private))
         told = {"any": (AHEAD, BEHIND, ("x",)), "none": (EMPTY, EMPTY, ("y", "z")), "up": (BEHIND, AHEAD, ())}
         self.assertEqual((desk.rules, list(desk.rules), list(desk), len(desk)), (told, sorted(told), sorted(told), 3))
@@ -169,17 +172,19 @@ class Rules(unittest.TestCase):
     def test_in(self):
         desk = Desk(TWO)
         desk.learn("up", BEHIND, AHEAD)
-        for value in others() + tuples() + no_names() + ["x", [], {}, ("up",), ["up"], TWO]:
+        for value in all_but() + ["x", [], {}, ("up",), ["up"], TWO]:
             self.assertIs(value in desk, False)
             with self.assertRaises(UnknownName) as caught:
                 desk[value]
-            self.assertEqual(repr(caught.exception.name), repr(value)) if isinstance(value, (int, str)) else None
+            if isinstance(value, (int, str)):
+                self.assertEqual(repr(caught.exception.name), repr(value))
         self.assertIs("up" in desk, True)
 
     def test_refused(self):
         desk = Desk(TWO)
         for one, other, private, reason in ((AHEAD, BEHIND, (), ("content", "x", 0)), (EMPTY, ONCE, (), ("bare", 0)),
-                                            (EMPTY, AHEAD, ("x",), ("letter", 0)), (EMPTY, Stretch((WRITE,)), ("x",), ("content", "x", 0))):
+                                            (EMPTY, AHEAD, ("x",), ("letter", 0)),
+                                            (EMPTY, Stretch((WRITE,)), ("x",), ("content", "x", 0))):
             with self.assertRaises(Refused) as caught:
                 desk.learn("up", one, other, private=private)
             self.assertEqual(caught.exception.reason, reason)
@@ -189,9 +194,9 @@ class Rules(unittest.TestCase):
         desk = Desk(TWO)
         desk.learn("up", BEHIND, AHEAD)
         before = state(desk)
-        names = others() + tuples() + no_names() + ["up", ("a",)]
-        stretches = [value for value in others() if not isinstance(value, Stretch)] + tuples() + no_names() + [(), (PUT,)]
-        sets = others() + tuples() + no_names() + ["x", ["x"], ("y", "x"), AHEAD]
+        names = all_but() + ["up", ("a",)]
+        stretches = all_but(Stretch) + [(), (PUT,)]
+        sets = all_but() + ["x", ["x"], ("y", "x"), AHEAD]
         for one, other in ((BEHIND, AHEAD), (AHEAD, BEHIND), (AHEAD, BEHIND.keeping(("a",)))):
             check_errors(self, lambda name, one, other, private: desk.learn(name, one, other, private=private), [
                 ("new", names, InvalidOperation), (one, stretches, InvalidStretch), (other, stretches, InvalidStretch),
@@ -205,7 +210,7 @@ class Rules(unittest.TestCase):
         desk = Desk(TWO)
         desk.learn("up", BEHIND, AHEAD)
         before = state(desk)
-        for value in others() + tuples() + no_names() + ["x", "upp", "u", [], {}, ("up",), nested("up", 11)]:
+        for value in all_but() + ["x", "upp", "u", [], {}, ("up",), nested("up", 11)]:
             for call in (desk.forget, lambda name: desk.can_apply(name, 9, 9), lambda name: desk.apply(name, 9, 9),
                          lambda name: next(desk.places(name)), lambda name: desk[name]):
                 with self.assertRaises(UnknownName):
@@ -228,7 +233,8 @@ class Applying(unittest.TestCase):
 
     def test_applied(self):
         self.assertEqual(self.applied(Program((BEHIND.code, ())), "up", 0, 0), AHEAD.code)
-        self.assertEqual(self.applied(Program(((), (SHOW,) + BEHIND.code + (PUT,))), "up", 1, 1), (SHOW,) + AHEAD.code + (PUT,))
+        self.assertEqual(self.applied(Program(((), (SHOW,) + BEHIND.code + (PUT,))), "up", 1, 1),
+            (SHOW,) + AHEAD.code + (PUT,))
         self.assertEqual(self.applied(Program(((READ, READ, READ),)), "once", 0, 1), (READ, READ))
         self.assertEqual(self.applied(Program(((READ, READ, SHOW),)), "once", 0, 0), (READ, SHOW))
 
@@ -249,7 +255,8 @@ class Applying(unittest.TestCase):
         self.assertEqual(list(inner.places("up")), [])
 
     def test_the_kept_registers(self):
-        for behind, right in (((), True), ((SHOW,), False), ((("get", "a"), SHOW), True), ((("if", "p", "t", (SHOW,), ()),), False)):
+        for behind, right in (((), True), ((SHOW,), False), ((("get", "a"), SHOW), True),
+                ((("if", "p", "t", (SHOW,), ()),), False)):
             desk = learned(Desk(Program(((READ,) + behind,))))
             self.assertIs(desk.can_apply("drop", 0, 0), right, behind)
             self.assertIs((0, 0) in list(desk.places("drop")), right)
@@ -271,17 +278,18 @@ class Applying(unittest.TestCase):
     def test_places(self):
         desk = learned(Desk(Program(((READ, READ, READ), (READ,), (READ, READ)))))
         self.assertEqual(list(desk.places("once")), [(0, 0), (0, 1), (2, 0)])
-        self.assertEqual(list(desk.places("none")), [(0, at) for at in range(4)] + [(1, 0), (1, 1)] + [(2, at) for at in range(3)])
+        self.assertEqual(list(desk.places("none")),
+            [(0, at) for at in range(4)] + [(1, 0), (1, 1)] + [(2, at) for at in range(3)])
         self.assertIsInstance(desk.places("once"), types.GeneratorType)
 
     def test_errors(self):
         desk = learned(Desk(TWO))
         before = state(desk)
-        kinds = tuples() + no_names()
-        threads = [value for value in others() if value not in (0, 1) or isinstance(value, bool)] + kinds + [2, -1]
-        starts = [value for value in others() if value not in (0, 1, 2, 3, 4) or isinstance(value, bool)] + kinds + [5, -1]
+        threads = all_but_numbers(0, 1) + [2, -1]
+        starts = all_but_numbers(0, 1, 2, 3, 4) + [5, -1]
         for call in (desk.can_apply, desk.apply):
-            check_errors(self, call, [("up", ["x", None, [], 1, ("up",)], UnknownName), (0, threads, InvalidNumber), (0, starts, InvalidNumber)])
+            check_errors(self, call, [("up", ["x", None, [], 1, ("up",)], UnknownName), (0, threads, InvalidNumber),
+                (0, starts, InvalidNumber)])
             with self.assertRaises(InvalidNumber) as caught:
                 call("up", 1, 4)
             self.assertEqual(caught.exception.value, 4)
@@ -328,7 +336,8 @@ class Applying(unittest.TestCase):
         start = rng.randint(0, len(desk.program.threads[thread]))
         try:
             one = piece(desk.program, thread, start, min(start + rng.randint(0, 2), len(desk.program.threads[thread])))
-            desk.learn(name, one, large(some_change(rng, one.code), one.keeps), private=rng.choice(((), ("x",), ("x", "y"))))
+            desk.learn(name, one, large(some_change(rng, one.code), one.keeps),
+                private=rng.choice(((), ("x",), ("x", "y"))))
         except (Refused, InvalidOperation):
             pass
 
@@ -354,11 +363,10 @@ class Exchanging(unittest.TestCase):
     def test_errors(self):
         desk = learned(Desk(TWO))
         before = state(desk)
-        kinds = tuples() + no_names()
-        numbers = [None, True, "0", -1, 5, (), [0]] + kinds
+        numbers = all_but_numbers(0, 1, 2, 3, 4) + [-1, 5]
         check_errors(self, desk.exchange, [
             (0, numbers + [2], InvalidNumber), (1, numbers, InvalidNumber), (1, numbers + [0], InvalidNumber),
-            (EMPTY, [value for value in others() if not isinstance(value, Stretch)] + kinds, InvalidStretch)])
+            (EMPTY, all_but(Stretch), InvalidStretch)])
         for arguments, error in (((1, 0, 3, EMPTY), InvalidOperation), ((0, 2, 4, BEHIND), Refused),
                                  ((0, 0, 1, large((READ,) * 60)), InvalidProgram)):
             with self.assertRaises(error):
@@ -378,7 +386,8 @@ class Exchanging(unittest.TestCase):
                 code = desk.program.threads[thread]
                 start = rng.randint(0, len(code))
                 end = rng.randint(start, len(code))
-                other = large(rng.choice((some_change(rng, code[start:end]), some_code(rng, 1))) if show_free(code[start:end]) else ())
+                changed = some_change(rng, code[start:end]) if show_free(code[start:end]) else ()
+                other = large(rng.choice((changed, some_code(rng, 1))))
                 try:
                     desk.exchange(thread, start, end, other)
                 except (Refused, InvalidOperation):
@@ -399,8 +408,12 @@ class TakingBack(unittest.TestCase):
         """A desk with four changes, and its state behind each number of changes."""
         desk = Desk(TWO)
         steps = [(desk.program, desk.rules)]
-        for change in (lambda: desk.learn("up", BEHIND, AHEAD), lambda: desk.exchange(0, 0, 3, ONCE),
-                       lambda: desk.learn("more", ONCE.keeping(("a",)), TWICE.keeping(("a",))), lambda: desk.apply("more", 0, 0)):
+        for change in (
+            lambda: desk.learn("up", BEHIND, AHEAD),
+            lambda: desk.exchange(0, 0, 3, ONCE),
+            lambda: desk.learn("more", ONCE.keeping(("a",)), TWICE.keeping(("a",))),
+            lambda: desk.apply("more", 0, 0),
+        ):
             change()
             steps.append((desk.program, desk.rules))
         return desk, steps
@@ -445,7 +458,8 @@ class TakingBack(unittest.TestCase):
         desk, steps = self.changed()
         desk.undo()
         before = state(desk)
-        for value in [value for value in others() if isinstance(value, bool) or not isinstance(value, int) or value < 0] + tuples() + no_names():
+        wrong = [value for value in all_but_numbers(0, 1, 2, 7) if not (type(value) is int and value > 0)]
+        for value in wrong:
             for call in (desk.undo, desk.redo):
                 with self.assertRaises(InvalidNumber) as caught:
                     call(many=value)
@@ -453,8 +467,12 @@ class TakingBack(unittest.TestCase):
         self.assertEqual(state(desk), before)
 
     def test_another_change_ends_what_can_be_done_again(self):
-        for change in (lambda desk: desk.learn("new", EMPTY, EMPTY), lambda desk: desk.forget("up"), lambda desk: desk.exchange(0, 0, 0, EMPTY),
-                       lambda desk: desk.apply("again", 0, 0)):
+        for change in (
+            lambda desk: desk.learn("new", EMPTY, EMPTY),
+            lambda desk: desk.forget("up"),
+            lambda desk: desk.exchange(0, 0, 0, EMPTY),
+            lambda desk: desk.apply("again", 0, 0),
+        ):
             desk, steps = self.changed()
             desk.undo(many=3)
             desk.learn("again", EMPTY.keeping(("a", "b", "c")), EMPTY.keeping(("a", "b", "c")))
@@ -468,9 +486,11 @@ class TakingBack(unittest.TestCase):
     def test_what_fails_does_not(self):
         desk, steps = self.changed()
         desk.undo(many=2)
-        for call in (lambda: desk.learn("up", EMPTY, EMPTY), lambda: desk.forget("no"), lambda: desk.exchange(0, 0, 9, EMPTY),
-                     lambda: desk.apply("up", 0, 1), lambda: desk.undo(many=3), lambda: desk.redo(many=3), lambda: desk["no"],
-                     lambda: desk.learn("down", AHEAD, BEHIND), lambda: desk.exchange(0, 1, 2, BEHIND)):
+        for call in (
+            lambda: desk.learn("up", EMPTY, EMPTY), lambda: desk.forget("no"), lambda: desk.exchange(0, 0, 9, EMPTY),
+            lambda: desk.apply("up", 0, 1), lambda: desk.undo(many=3), lambda: desk.redo(many=3),
+            lambda: desk["no"], lambda: desk.learn("down", AHEAD, BEHIND), lambda: desk.exchange(0, 1, 2, BEHIND),
+        ):
             with self.assertRaises((ValueError, LookupError, RuntimeError, ArithmeticError)):
                 call()
         self.assertEqual((desk.redo(many=2), desk.program), (4, steps[4][0]))
@@ -510,8 +530,11 @@ class Blocks(unittest.TestCase):
         self.assertEqual(desk.program.threads[0], (READ, PUT))
 
     def test_with_changes_taken_back_and_done_again(self):
-        for change in (lambda desk: desk.undo(), lambda desk: desk.undo(many=5), lambda desk: desk.redo(), lambda desk: None,
-                       lambda desk: (desk.undo(many=5), desk.learn("new", EMPTY, EMPTY)), lambda desk: (desk.redo(), desk.undo(many=6))):
+        for change in (
+            lambda desk: desk.undo(), lambda desk: desk.undo(many=5), lambda desk: desk.redo(), lambda desk: None,
+            lambda desk: (desk.undo(many=5), desk.learn("new", EMPTY, EMPTY)),
+            lambda desk: (desk.redo(), desk.undo(many=6)),
+        ):
             desk = self.ready()
             before = state(desk)
             with desk.attempt():
@@ -588,7 +611,8 @@ class Blocks(unittest.TestCase):
         with self.assertRaises(Failure):
             desk.during(self.fails)
         self.assertEqual(state(desk), before)
-        self.assertEqual(desk.during(lambda same: same.during(lambda also: (also.forget("up"), len(also))) + (len(same),)), (None, 4, 5))
+        inner = desk.during(lambda same: same.during(lambda also: (also.forget("up"), len(also))) + (len(same),))
+        self.assertEqual(inner, (None, 4, 5))
 
     def fails(self, desk):
         self.changes(desk)

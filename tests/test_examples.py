@@ -153,7 +153,8 @@ class Examples(unittest.TestCase):
 
     def test_all_that_a_program_can_do(self):
         self.assertEqual(
-            [is_orderly(PAIR), ends(PAIR), is_clash(PAIR, (0, 0, 1)), is_clash(PAIR, (0, 1)), is_clash(PAIR, ()), states(PAIR)],
+            [is_orderly(PAIR), ends(PAIR), is_clash(PAIR, (0, 0, 1)), is_clash(PAIR, (0, 1)), is_clash(PAIR, ()),
+             states(PAIR)],
             [False, (((), ("a",)), ((), ("b",))), True, False, False, 12])
         self.assertEqual(
             [is_orderly(CALM), outcome(CALM), clash(CALM), is_clash(PAIR, clash(PAIR))],
@@ -165,13 +166,15 @@ class Examples(unittest.TestCase):
             [witness(BEHIND, AHEAD), is_witness(AHEAD, BEHIND, found), is_witness(BEHIND, AHEAD, found)],
             [None, True, False])
         self.assertEqual(
-            [is_witness(AHEAD, BEHIND, LOOK), is_orderly(surrounded(AHEAD, LOOK)), is_orderly(surrounded(BEHIND, LOOK))],
+            [is_witness(AHEAD, BEHIND, LOOK), is_orderly(surrounded(AHEAD, LOOK)),
+             is_orderly(surrounded(BEHIND, LOOK))],
             [True, True, False])
 
     def test_single_changes(self):
         written_back = Stretch((("read", "a", "x"), ("write", "x", "a")))
         self.assertEqual(
-            [can_move(BEHIND, 1, -1), can_move(AHEAD, 0, 1), can_drop(AHEAD, 0), are_same(AHEAD, BEHIND), drops(written_back)],
+            [can_move(BEHIND, 1, -1), can_move(AHEAD, 0, 1), can_drop(AHEAD, 0), are_same(AHEAD, BEHIND),
+             drops(written_back)],
             [True, False, False, False, (1,)])
         last = Stretch((("get", "b"), ("read", "c", "x"), ("put", "c"), ("read", "a", "x")))
         self.assertEqual(
@@ -180,7 +183,8 @@ class Examples(unittest.TestCase):
 
     def test_straight_stretches(self):
         self.assertEqual(
-            [needed_reads(SAVE), due_writes(SAVE), fewest(SAVE), is_least(SAVE), is_least(least(SAVE)), can_drop(SAVE, 1)],
+            [needed_reads(SAVE), due_writes(SAVE), fewest(SAVE), is_least(SAVE), is_least(least(SAVE)),
+             can_drop(SAVE, 1)],
             [(("x", 1),), (), {"x": (1, 0)}, False, True, True])
         self.assertEqual(
             [needed_reads(BACK), due_writes(BACK), fewest(BACK, private=("x", "y")), is_least(BACK)],
@@ -197,10 +201,12 @@ class Examples(unittest.TestCase):
     def test_a_desk(self):
         desk = Desk(TWO)
         self.assertEqual(
-            [desk.learn("up", BEHIND, AHEAD), desk.exchange(0, 0, 3, Stretch((("read", "a", "x"),))), desk.shown, str(desk)],
+            [desk.learn("up", BEHIND, AHEAD), desk.exchange(0, 0, 3, Stretch((("read", "a", "x"),))), desk.shown,
+             str(desk)],
             [None, None, ((), ("x.1",)), "desk of 2 threads, 5 statements, 1 rules"])
         self.assertEqual(
-            [desk.can_apply("up", 0, 0), list(desk.places("up")), desk.undo(), len(desk.program.threads[0]), desk.redo(),
+            [desk.can_apply("up", 0, 0), list(desk.places("up")), desk.undo(), len(desk.program.threads[0]),
+             desk.redo(),
              desk.first == TWO],
             [False, [], 1, 4, 2, True])
 

@@ -114,8 +114,10 @@ class Form(unittest.TestCase):
                 else:
                     self.assertEqual(node.module.split(".")[0], "orderlymoves", path)
                     bound = names_bound(ROOT / (node.module.replace(".", "/") + ".py"))
+                used = {name.id for name in nodes(path, ast.Name)}
                 for alias in node.names:
                     self.assertIn(alias.name, bound, path)
+                    self.assertIn(alias.name, used, path)
                     self.assertIsNone(alias.asname, path)
 
     def test_no_two_files_import_from_each_other(self):
@@ -175,8 +177,9 @@ class Form(unittest.TestCase):
             apart = {alias.name for node in nodes(path, ast.ImportFrom) for alias in node.names}
             apart |= {node.name for node in nodes(path, ast.ClassDef)}
             for node in nodes(path, ast.FunctionDef, ast.Lambda):
-                found = {part.arg for part in ast.walk(node) if isinstance(part, ast.arg)}
-                found |= {part.id for part in ast.walk(node) if isinstance(part, ast.Name) and isinstance(part.ctx, ast.Store)}
+                parts = list(ast.walk(node))
+                found = {part.arg for part in parts if isinstance(part, ast.arg)}
+                found |= {part.id for part in parts if isinstance(part, ast.Name) and isinstance(part.ctx, ast.Store)}
                 self.assertEqual(found & apart, set(), (path, node.lineno))
 
     def test_names_of_methods_properties_and_attributes(self):
@@ -219,7 +222,8 @@ class Form(unittest.TestCase):
         for path in files():
             for node in nodes(path, ast.Call):
                 if isinstance(node.func, ast.Name) and node.func.id in BUILTINS:
-                    self.assertEqual([part.arg for part in node.keywords if part.arg not in allowed], [], (path, node.lineno))
+                    found = {part.arg for part in node.keywords}
+                    self.assertLessEqual(found, set(allowed), (path, node.lineno))
 
     def test_statements_and_signs(self):
         for path in files():

@@ -1,5 +1,6 @@
 """Straight stretches: the reads that are needed, the writes that are due, and the least stretches."""
 
+import itertools
 import random
 import unittest
 
@@ -12,7 +13,7 @@ from orderlymoves.lean import needs
 from orderlymoves.lean.needs import due_writes, fewest, is_least, least, needed_reads
 from orderlymoves.live.pieces import piece
 from orderlymoves.play.programs import Program
-from samples import CELLS, REGISTERS, check_errors, large, no_names, others, some_change, some_code, some_pairs, tuples
+from samples import CELLS, REGISTERS, all_but, check_errors, large, some_change, some_code, some_pairs
 
 READ = ("read", "r", "x")
 WRITE = ("write", "x", "a")
@@ -102,7 +103,8 @@ class Needs(unittest.TestCase):
         self.found((READ, ("set", "r", "f", ("r",))), (("x", 1),), (), ("r",))
         self.found((READ, ("set", "r", "f", ("a", "r")), ("set", "s", "g", ("r",)), ("put", "s")), (("x", 1),), ())
         self.found((READ, ("set", "r", "f", ("r",)), BACK), (("x", 1),), (("x", 0, "f(x.1)"),))
-        self.found((READ, ("set", "r", "f", ("r",)), BACK, READ, ("set", "s", "f", ("a",))), (("x", 1),), (("x", 0, "f(x.1)"),))
+        self.found((READ, ("set", "r", "f", ("r",)), BACK, READ, ("set", "s", "f", ("a",))), (("x", 1),),
+            (("x", 0, "f(x.1)"),))
         self.found((READ, ("set", "r", "f", ())), (), (), ("r",))
         self.found((READ, ("read", "s", "y"), ("set", "s", "f", ("r", "s")), ("put", "s")), (("x", 1), ("y", 1)), ())
         self.found((READ, ("copy", "s", "r"), ("set", "r", "f", ("s",)), ("copy", "r", "a")), (), (), ("r",))
@@ -116,7 +118,8 @@ class Needs(unittest.TestCase):
         self.found((READ, PUT, GET, BACK), (), (), private=("x",))
         self.found((WRITE, PUT, GET, READ), (), (("x", 2, "a"),), ("r",), ("x",))
         self.found((READ, PUT, GET, READ), (("x", 1),), (), ("r",), ("x",))
-        self.found((READ, ("write", "y", "r"), WRITE), (("x", 1),), (("x", 0, "a"), ("y", 0, "x.1")), private=("x", "y"))
+        self.found((READ, ("write", "y", "r"), WRITE), (("x", 1),), (("x", 0, "a"), ("y", 0, "x.1")),
+            private=("x", "y"))
         self.found((PUT,), (), (), private=("x", "y"))
         self.found((READ,), (), (), private=("x",))
 
@@ -142,6 +145,14 @@ class Least(unittest.TestCase):
         self.assertEqual(least(stretch, private=private), found)
         return found
 
+    def test_how_great_a_least_one_is(self):
+        kept = (("read", "a", "x"), ("get", "b"), ("set", "c", "f", ("a", "b")), ("write", "y", "c"),
+            ("read", "d", "z"))
+        for keeps in ((), ("a",), ("a", "b", "c", "d")):
+            stretch = Stretch(kept, keeps)
+            self.assertIs(is_least(stretch), "d" in keeps)
+            self.assertLessEqual(self.check(stretch).size, 5 + len(keeps))
+
     def test_small_ones(self):
         for code in ((), (READ,), (WRITE, OTHER), (READ, BACK), (READ, PUT, BACK), (WRITE, READ, ("put", "r"))):
             for private in ((), ("x",)):
@@ -149,6 +160,9 @@ class Least(unittest.TestCase):
                 self.check(Stretch(code, ("a", "r")), private)
 
     def test_registers_that_change_places(self):
+        drop = (("read", "q", "y"),)
+        for code in itertools.product([("copy", one, two) for one, two in itertools.permutations("abc", 2)], repeat=3):
+            self.check(Stretch(code + drop, ("a", "b", "c")))
         swap = (("copy", "c", "a"), ("copy", "a", "b"), ("copy", "b", "c"))
         self.check(Stretch(swap, ("a", "b")))
         self.check(Stretch(swap + swap, ("a", "b", "c")))
@@ -157,7 +171,8 @@ class Least(unittest.TestCase):
         self.check(Stretch(turn + (READ, ("copy", "a", "r"), PUT), ("a", "b", "c", "d")))
 
     def test_values_of_the_beginning_that_are_needed_late(self):
-        self.check(Stretch((("copy", "c", "a"), GET, ("get", "a"), ("put", "c"), READ, ("copy", "b", "r"), ("put", "b")), ("a", "b")))
+        code = (("copy", "c", "a"), GET, ("get", "a"), ("put", "c"), READ, ("copy", "b", "r"), ("put", "b"))
+        self.check(Stretch(code, ("a", "b")))
 
     def test_many_of_them(self):
         rng = random.Random(61)
@@ -173,7 +188,7 @@ class Least(unittest.TestCase):
     def test_stretches_that_functions_return(self):
         rng = random.Random(62)
         one = large(some_code(rng, 60, 0), ("a", "b"))
-        for stretch in (one + one, one + one + one, large(tuple(("set", "a", "f", ("a",)) for _ in range(100)) + (PUT,), ("a",))):
+        for stretch in (one + one, one + one + one, large((("set", "a", "f", ("a",)),) * 100 + (PUT,), ("a",))):
             for private in PRIVATE[:3]:
                 self.check(stretch, private)
         program = Program((some_code(rng, 30, 0) + tuple(("show", name) for name in REGISTERS + ("d", "e", "f")),))
@@ -214,8 +229,9 @@ class Promises(unittest.TestCase):
         for one, other in some_pairs(65, 400):
             if one.is_straight and may_stand(one, other):
                 for case in cases(one, other):
-                    self.assertGreaterEqual(len([access for access in case.accesses if access[0] == "read"]), len(needed_reads(one)))
-                    self.assertGreaterEqual(len([access for access in case.accesses if access[0] == "write"]), len(due_writes(one)))
+                    kinds = [access[0] for access in case.accesses]
+                    self.assertGreaterEqual(kinds.count("read"), len(needed_reads(one)))
+                    self.assertGreaterEqual(kinds.count("write"), len(due_writes(one)))
 
     def test_two_that_are_the_same_have_the_same_fewest(self):
         met = 0
@@ -250,8 +266,8 @@ class Promises(unittest.TestCase):
 
 
 class Errors(unittest.TestCase):
-    STRETCHES = [value for value in others() if not isinstance(value, Stretch)] + tuples() + no_names() + [(), (READ,)]
-    SETS = others() + tuples() + no_names() + ["x", ["x"], ("y", "x"), Stretch(())]
+    STRETCHES = all_but(Stretch) + [(), (READ,)]
+    SETS = all_but() + ["x", ["x"], ("y", "x"), Stretch(())]
 
     def test_the_first_that_applies(self):
         for stretch in (Stretch((READ,)), Stretch((("if", "p", "r", (), ()),))):

@@ -11,7 +11,7 @@ from orderlymoves.live import pieces
 from orderlymoves.live.pieces import exchanged, piece, private_cells
 from orderlymoves.play.programs import Program
 from orderlymoves.play.states import is_orderly, outcome
-from samples import CELLS, check_errors, large, no_names, others, some_change, some_code, some_program, tuples
+from samples import CELLS, all_but, all_but_numbers, check_errors, large, some_change, some_code, some_program
 
 READ = ("read", "a", "x")
 WRITE = ("write", "x", "a")
@@ -58,8 +58,10 @@ class Pieces(unittest.TestCase):
 
     def test_registers_that_are_used_behind(self):
         for behind, keeps in (
-            ((), ()), ((SHOW,), ("a",)), ((("put", "c"),), ("c",)), ((("write", "y", "c"),), ("c",)), ((("copy", "b", "c"),), ("c",)),
-            ((("set", "b", "f", ("d", "c")),), ("c", "d")), ((("set", "b", "f", ()),), ()), ((READ,), ()), ((("get", "c"),), ()),
+            ((), ()), ((SHOW,), ("a",)), ((("put", "c"),), ("c",)), ((("write", "y", "c"),), ("c",)),
+            ((("copy", "b", "c"),), ("c",)),
+            ((("set", "b", "f", ("d", "c")),), ("c", "d")), ((("set", "b", "f", ()),), ()), ((READ,), ()),
+            ((("get", "c"),), ()),
             ((choice(),), ("t",)), ((("show", "z"), SHOW), ("a", "z")), ((("copy", "c", "c"),), ("c",)),
             ((("set", "c", "f", ("c", "c")),), ("c",)),
         ):
@@ -67,19 +69,26 @@ class Pieces(unittest.TestCase):
 
     def test_registers_that_are_set_first(self):
         for behind, keeps in (
-            ((READ, SHOW), ()), ((SHOW, READ), ("a",)), ((("get", "c"), ("put", "c")), ()), ((("copy", "c", "b"), ("put", "c")), ("b",)),
-            ((("set", "c", "f", ("b",)), ("put", "c"), ("put", "b")), ("b",)), ((("set", "c", "f", ()), choice(name="c")), ()),
-            ((("write", "a", "b"), SHOW), ("a", "b")), ((("read", "b", "a"), SHOW), ("a",)), ((PUT, READ, SHOW), ("a",)),
+            ((READ, SHOW), ()), ((SHOW, READ), ("a",)), ((("get", "c"), ("put", "c")), ()),
+            ((("copy", "c", "b"), ("put", "c")), ("b",)),
+            ((("set", "c", "f", ("b",)), ("put", "c"), ("put", "b")), ("b",)),
+            ((("set", "c", "f", ()), choice(name="c")), ()),
+            ((("write", "a", "b"), SHOW), ("a", "b")), ((("read", "b", "a"), SHOW), ("a",)),
+            ((PUT, READ, SHOW), ("a",)),
         ):
             self.assertEqual(self.keeps(behind), keeps)
 
     def test_through_ifs(self):
         for behind, keeps in (
-            ((choice((SHOW,)),), ("a", "t")), ((choice((), (SHOW,)),), ("a", "t")), ((choice((READ,)), SHOW), ("a", "t")),
+            ((choice((SHOW,)),), ("a", "t")), ((choice((), (SHOW,)),), ("a", "t")),
+            ((choice((READ,)), SHOW), ("a", "t")),
             ((choice((), (READ,)), SHOW), ("a", "t")), ((choice((READ,), (READ,)), SHOW), ("t",)),
-            ((choice((READ, SHOW), ()),), ("t",)), ((choice((("copy", "b", "c"),), (READ,)), SHOW, ("show", "b")), ("a", "b", "c", "t")),
-            ((READ, choice((SHOW,), (choice((SHOW,)),))), ("t",)), ((choice((choice((READ,), (READ,)),), (READ,)), SHOW), ("t",)),
-            ((choice((choice((READ,), ()),), (READ,)), SHOW), ("a", "t")), ((("get", "t"), choice((("show", "t"),))), ()),
+            ((choice((READ, SHOW), ()),), ("t",)),
+            ((choice((("copy", "b", "c"),), (READ,)), SHOW, ("show", "b")), ("a", "b", "c", "t")),
+            ((READ, choice((SHOW,), (choice((SHOW,)),))), ("t",)),
+            ((choice((choice((READ,), (READ,)),), (READ,)), SHOW), ("t",)),
+            ((choice((choice((READ,), ()),), (READ,)), SHOW), ("a", "t")),
+            ((("get", "t"), choice((("show", "t"),))), ()),
             ((choice((READ,), ()), choice((SHOW,), ())), ("a", "t")), ((choice((), (), "a"),), ("a",)),
         ):
             self.assertEqual(self.keeps(behind), keeps)
@@ -95,7 +104,8 @@ class Pieces(unittest.TestCase):
 
     def test_a_show_among_them(self):
         program = Program(((PUT, SHOW, PUT, choice((choice((), (SHOW,)),)), PUT),))
-        for start, end, right in ((0, 1, True), (0, 2, False), (1, 1, True), (1, 2, False), (2, 3, True), (2, 4, False), (3, 4, False),
+        for start, end, right in ((0, 1, True), (0, 2, False), (1, 1, True), (1, 2, False), (2, 3, True), (2, 4, False),
+            (3, 4, False),
                                   (3, 3, True), (4, 5, True), (0, 5, False)):
             if right:
                 self.assertEqual(piece(program, 0, start, end).size, end - start)
@@ -145,7 +155,8 @@ class Exchanged(unittest.TestCase):
     def test_private_cells(self):
         program = Program(((PUT, ("get", "g"), ("write", "y", "b")), LOOK))
         touched = Program(program.threads[:1] + (LOOK + (choice((("read", "c", "y"),)),),))
-        late, early = Stretch((PUT, ("get", "g"), ("write", "y", "b"))), Stretch((("write", "y", "b"), PUT, ("get", "g")))
+        late, early = Stretch((PUT, ("get", "g"), ("write", "y", "b"))), Stretch((("write", "y", "b"), PUT,
+            ("get", "g")))
         for stretch in (late, early):
             self.assertEqual(exchanged(program, 0, 0, 3, stretch).threads[0], stretch.code)
         self.assertEqual(exchanged(touched, 0, 0, 3, late), touched)
@@ -167,14 +178,16 @@ class Exchanged(unittest.TestCase):
 
     def test_the_fault_of_the_first_case(self):
         program = Program(((choice((PUT,), (WRITE,), "a"),), (READ,)))
-        for code, reason in (((), ("letter", 0)), ((PUT,), ("letter", 0)), ((choice((PUT,), (), "a"),), ("content", "x", 0))):
+        for code, reason in (((), ("letter", 0)), ((PUT,), ("letter", 0)),
+                ((choice((PUT,), (), "a"),), ("content", "x", 0))):
             with self.assertRaises(Refused) as caught:
                 exchanged(program, 0, 0, 1, Stretch(code))
             self.assertEqual(caught.exception.reason, reason)
             self.assertEqual(fault(piece(program, 0, 0, 1), Stretch(code)).fault, reason)
 
     def test_empty_pieces_and_whole_threads(self):
-        self.assertEqual(exchanged(TWO, 0, 4, 4, Stretch((("read", "q", "y"),))).threads[0], TWO.threads[0] + (("read", "q", "y"),))
+        self.assertEqual(exchanged(TWO, 0, 4, 4, Stretch((("read", "q", "y"),))).threads[0],
+            TWO.threads[0] + (("read", "q", "y"),))
         self.assertEqual(exchanged(TWO, 0, 2, 2, EMPTY), TWO)
         whole = Stretch((READ, PUT))
         self.assertEqual(exchanged(TWO, 0, 0, 4, whole).threads[0], whole.code)
@@ -221,7 +234,8 @@ class Promises(unittest.TestCase):
                 end = rng.randint(start, len(program.threads[thread]))
                 try:
                     one = piece(program, thread, start, end)
-                    code = rng.choice((some_change(rng, one.code), one.code + (("read", "q", rng.choice(CELLS)),), some_code(rng, 1)))
+                    code = rng.choice((some_change(rng, one.code), one.code + (("read", "q", rng.choice(CELLS)),),
+                        some_code(rng, 1)))
                     program = exchanged(program, thread, start, end, large(code))
                 except (Refused, InvalidOperation, InvalidProgram):
                     refused += 1
@@ -250,7 +264,8 @@ class Promises(unittest.TestCase):
             if one == other or not may_stand(one, other):
                 continue
             between = some_code(rng, 1)
-            for codes in ((one.code + between + one.code, ()), (one.code, one.code + between), (one.code, between, one.code)):
+            for codes in ((one.code + between + one.code, ()), (one.code, one.code + between),
+                    (one.code, between, one.code)):
                 program = Program(codes)
                 if not self.is_calm(program):
                     continue
@@ -262,7 +277,7 @@ class Promises(unittest.TestCase):
     def test_a_least_piece(self):
         rng = random.Random(73)
         met = 0
-        for _ in range(150):
+        for _ in range(300):
             program = some_program(rng, 2, 6, 0.2)
             if self.is_calm(program):
                 for thread, code in enumerate(program.threads):
@@ -291,12 +306,11 @@ def replaced(code, one, other):
 
 
 class Errors(unittest.TestCase):
-    PROGRAMS = [value for value in others() if not isinstance(value, Program)] + tuples() + no_names() + [TWO.threads, TWO(())]
-    KINDS = tuples() + no_names()
-    THREADS = [value for value in others() if value not in (0, 1) or isinstance(value, bool)] + KINDS + [2, -1]
-    STARTS = [value for value in others() if value not in (0, 1, 2, 3, 4) or isinstance(value, bool)] + KINDS + [5, -1]
-    ENDS = [value for value in others() if value not in (1, 2, 3, 4) or isinstance(value, bool)] + KINDS + [0, 5, -1]
-    STRETCHES = [value for value in others() if not isinstance(value, Stretch)] + KINDS + [(), (READ,)]
+    PROGRAMS = all_but(Program) + [TWO.threads, TWO(())]
+    THREADS = all_but_numbers(0, 1) + [2, -1]
+    STARTS = all_but_numbers(0, 1, 2, 3, 4) + [5, -1]
+    ENDS = all_but_numbers(1, 2, 3, 4) + [0, 5, -1]
+    STRETCHES = all_but(Stretch) + [(), (READ,)]
 
     def test_the_first_that_applies(self):
         told = [(TWO, self.PROGRAMS, InvalidProgram), (0, self.THREADS, InvalidNumber), (1, self.STARTS, InvalidNumber),
@@ -307,14 +321,16 @@ class Errors(unittest.TestCase):
 
     def test_errors_before_a_show(self):
         shows = Program(((SHOW,), ()))
-        told = [(shows, self.PROGRAMS[:20], InvalidProgram), (0, self.THREADS[:20], InvalidNumber), (0, [2, -1, None], InvalidNumber),
+        told = [(shows, self.PROGRAMS[:20], InvalidProgram), (0, self.THREADS[:20], InvalidNumber),
+            (0, [2, -1, None], InvalidNumber),
                 (1, [2, -1, None], InvalidNumber), (EMPTY, self.STRETCHES, InvalidStretch)]
         check_errors(self, exchanged, told)
         with self.assertRaises(InvalidOperation):
             exchanged(shows, 0, 0, 1, large((PUT,) * 61))
 
     def test_which_number_is_kept(self):
-        for arguments, kept in (((2, 9, 9), 2), ((0, 5, 9), 5), ((0, 3, 2), 2), ((0, 4, 5), 5), ((True, 0, 0), True), ((0, None, 0), None),
+        for arguments, kept in (((2, 9, 9), 2), ((0, 5, 9), 5), ((0, 3, 2), 2), ((0, 4, 5), 5), ((True, 0, 0), True),
+            ((0, None, 0), None),
                                 ((0, 0, False), False), ((1, 4, 4), 4)):
             for call in (piece, lambda *given: exchanged(*given, None)):
                 with self.assertRaises(InvalidNumber) as caught:

@@ -7,7 +7,8 @@ from orderlymoves.errors import InvalidNumber, InvalidOperation, InvalidProgram
 from orderlymoves.play import programs
 from orderlymoves.play.programs import Program, Run
 from orders import PlainRun, all_orders
-from samples import check_errors, nested, no_answers, no_names, no_values, others, some_program, tuples
+from samples import (
+    all_but, all_but_numbers, check_errors, nested, no_answers, no_names, no_values, others, some_program, tuples)
 
 SHOW = ("show", "a")
 PUT = ("put", "a")
@@ -31,11 +32,12 @@ def nest(deep, inner=()):
 
 def wrong_codes():
     """What is no code of a thread."""
-    found = [value for value in others()] + [value for value in tuples()] + no_names() + [
+    found = all_but() + [
         [SHOW], (list(SHOW),), ("show", "a"), (("show",),), (("show", "a", "b"),), (("show", "a b"),), (("Show", "a"),),
         (("show", ("a",)),), (("show", 1),), (("show", None),), (("put", "if"),), (("read", "a"),), (choice([SHOW]),),
         (("if", "p", "a", ()),), (SHOW,) * 61, (choice((SHOW,) * 60),), (choice((SHOW,) * 30, (SHOW,) * 30),), nest(4),
-        (choice(),) * 7, (SET,) * 7, (choice((choice(),) * 6),), (choice((), (choice(),) * 6),), (SET,) * 6 + (choice((SET,)),),
+        (choice(),) * 7, (SET,) * 7, (choice((choice(),) * 6),), (choice((), (choice(),) * 6),),
+        (SET,) * 6 + (choice((SET,)),),
         (choice((SET,) * 4, (SET,)),) + (SET,) * 3, (choice((choice(),) * 3),) * 2, (("show", "abcdefghi"),),
     ]
     return [value for value in found if value != ()]
@@ -90,7 +92,8 @@ class Bounds(unittest.TestCase):
 
     def test_sizes(self):
         for good, bad in (
-            ((SHOW,) * 60, (SHOW,) * 61), ((PUT,) * 60, (PUT,) * 61), ((choice((SHOW,) * 59),), (choice((SHOW,) * 60),)),
+            ((SHOW,) * 60, (SHOW,) * 61), ((PUT,) * 60, (PUT,) * 61),
+            ((choice((SHOW,) * 59),), (choice((SHOW,) * 60),)),
             ((choice((SHOW,) * 29, (SHOW,) * 30),), (choice((SHOW,) * 30, (SHOW,) * 30),)),
             ((choice((choice((SHOW,) * 50),)),) + (SHOW,) * 8, (choice((choice((SHOW,) * 50),)),) + (SHOW,) * 9),
         ):
@@ -145,7 +148,8 @@ class Programs(unittest.TestCase):
         self.assertEqual((program.cells["x"], program.answers["p", "a"]), ("a", True))
 
     def test_nothing_told(self):
-        for program in (Program((SEND,)), Program((SEND,), cells=None, answers=None), Program((SEND,), cells={}, answers={})):
+        for program in (Program((SEND,)), Program((SEND,), cells=None, answers=None),
+                Program((SEND,), cells={}, answers={})):
             self.assertEqual((program.cells, program.answers, program.names), ({}, {}, ("x",)))
             self.assertEqual(program, Program((SEND,)))
 
@@ -156,8 +160,10 @@ class Programs(unittest.TestCase):
 
     def test_equality(self):
         self.assertEqual(PAIR, Program((SEND, LOOK), cells={"x": "old"}, answers={}))
-        for other in (Program((LOOK, SEND), cells={"x": "old"}), Program((SEND, LOOK)), Program((SEND, LOOK), cells={"x": "a"}),
-                      Program((SEND, LOOK), cells={"x": "old", "y": "y.1"}), Program((SEND, LOOK, ()), cells={"x": "old"}),
+        for other in (Program((LOOK, SEND), cells={"x": "old"}), Program((SEND, LOOK)),
+            Program((SEND, LOOK), cells={"x": "a"}),
+                      Program((SEND, LOOK), cells={"x": "old", "y": "y.1"}),
+                      Program((SEND, LOOK, ()), cells={"x": "old"}),
                       Program((SEND, LOOK), cells={"x": "old"}, answers={("p", "a"): False})):
             self.assertFalse(PAIR == other)
             self.assertTrue(PAIR != other)
@@ -165,7 +171,7 @@ class Programs(unittest.TestCase):
         self.assertEqual(Program(((),), answers=told), Program(((),), answers=dict(sorted(told.items(), reverse=True))))
         # A cell that is told is told, also with the content that it would have anyway.
         self.assertNotEqual(Program((SEND,), cells={"x": "x.1"}), Program((SEND,)))
-        for value in others() + tuples() + no_names() + [PAIR.threads, PAIR(())]:
+        for value in all_but() + [PAIR.threads, PAIR(())]:
             self.assertIs(PAIR == value, False)
             self.assertIs(PAIR != value, True)
             self.assertIs(PAIR(()) == value, value == PAIR(()) and not isinstance(value, tuple))
@@ -201,7 +207,8 @@ class Runs(unittest.TestCase):
         self.assertEqual((len(run), str(run)), (6, "run of 6 steps, 0 ready"))
 
     def test_next_steps_of_each_kind(self):
-        for statement, step in ((("read", "a", "x"), ("read", "x")), (("write", "x", "a"), ("write", "x")), (GET, ("get",)),
+        for statement, step in ((("read", "a", "x"), ("read", "x")), (("write", "x", "a"), ("write", "x")),
+            (GET, ("get",)),
                                 (PUT, ("put",)), (SHOW, ("show",))):
             for ahead in ((), (CONSTANT,), (choice((), (("copy", "a", "b"),)),)):
                 self.assertEqual(Program((ahead + (statement,), ()))(()).next_steps, (step, None))
@@ -215,7 +222,8 @@ class Runs(unittest.TestCase):
         self.assertEqual(program(()).cells["x"], "x.1")
 
     def test_registers(self):
-        code = (("read", "a", "x"), ("set", "b", "f", ("a", "c")), ("set", "c", "g", ()), ("copy", "d", "b"), ("copy", "a", "d"))
+        code = (("read", "a", "x"), ("set", "b", "f", ("a", "c")), ("set", "c", "g", ()), ("copy", "d", "b"),
+            ("copy", "a", "d"))
         run = Program((code, (PUT,)))((0,))
         held = {"a": "f(x.1, c)", "b": "f(x.1, c)", "c": "g()", "d": "f(x.1, c)", "e": "e", "x": "x"}
         self.assertEqual({name: run.held(0, name) for name in held}, held)
@@ -246,10 +254,13 @@ class Runs(unittest.TestCase):
     def test_answers(self):
         code = (("read", "a", "x"), choice((("show", "b"),), (("show", "c"),)), choice((), (SHOW,), "q"))
         for answers, shown in (
-            (None, ("c", "d")), ({("p", "d"): True}, ("b", "d")), ({("p", "d"): False}, ("c", "d")), ({("p", "a"): True}, ("c", "d")),
-            ({("q", "d"): True}, ("c",)), ({("p", "d"): True, ("q", "d"): True}, ("b",)), ({("d", "p"): True}, ("c", "d")),
+            (None, ("c", "d")), ({("p", "d"): True}, ("b", "d")), ({("p", "d"): False}, ("c", "d")),
+            ({("p", "a"): True}, ("c", "d")),
+            ({("q", "d"): True}, ("c",)), ({("p", "d"): True, ("q", "d"): True}, ("b",)),
+            ({("d", "p"): True}, ("c", "d")),
         ):
-            self.assertEqual(Program((code,), cells={"x": "d"}, answers=answers)((0,) * (1 + len(shown))).shown, (shown,))
+            self.assertEqual(Program((code,), cells={"x": "d"}, answers=answers)((0,) * (1 + len(shown))).shown,
+                (shown,))
 
     def test_ifs_in_one_another(self):
         inner = choice((("show", "b"),), (("show", "c"),), "q")
@@ -329,7 +340,8 @@ class Clashes(unittest.TestCase):
 
     def test_only_next_steps_clash(self):
         program = Program(((SHOW, ("write", "x", "a")), (("write", "x", "a"),)))
-        self.assertEqual([program(order).clashing for order in ((), (0,), (1,), (0, 1), (0, 0))], [(), ((0, 1),), (), (), ()])
+        self.assertEqual([program(order).clashing for order in ((), (0,), (1,), (0, 1), (0, 0))],
+            [(), ((0, 1),), (), (), ()])
         self.assertEqual(Program(((("write", "x", "a"),),))(()).clashing, ())
 
 
@@ -356,7 +368,7 @@ class Following(unittest.TestCase):
         both = Program(((SHOW,), (SHOW,)))
         self.assertNotEqual(both((0, 1)), both((1, 0)))
         self.assertEqual(both((0, 1)).shown, both((1, 0)).shown)
-        for value in others() + tuples() + no_names():
+        for value in all_but():
             self.assertIs(PAIR((0,)) == value, False)
             self.assertIs(PAIR((0,)) != value, True)
 
@@ -364,7 +376,8 @@ class Following(unittest.TestCase):
         program = Program(((SHOW,) * 60,) * 3)
         order = (0, 1, 2) * 60
         self.assertEqual((program(order).is_end, len(program(order))), (True, 180))
-        for wrong in (order + (0,), order + (0, 1, 2) * 6 + (0, 1), order + (0,) * 20, order + (0,) * 21, (0,) * 10 ** 4):
+        for wrong in (order + (0,), order + (0, 1, 2) * 6 + (0, 1), order + (0,) * 20, order + (0,) * 21,
+                (0,) * 10 ** 4):
             with self.assertRaises(InvalidOperation):
                 program(wrong)
 
@@ -413,10 +426,10 @@ class Plainly(unittest.TestCase):
 
 
 class Errors(unittest.TestCase):
-    NUMBERS = [value for value in others() if value not in (0, 1) or isinstance(value, bool)] + tuples() + no_names() + [2, -1]
+    NUMBERS = all_but_numbers(0, 1) + [2, -1]
 
     def test_threads(self):
-        wrong = [value for value in others() + tuples() + no_names()] + [(), [()], [SEND], SEND, SHOW, ((),) * 4, {0: ()}]
+        wrong = all_but() + [(), [()], [SEND], SEND, SHOW, ((),) * 4, {0: ()}]
         for value in wrong + [(code,) for code in wrong_codes()] + [((), code) for code in wrong_codes()]:
             with self.subTest(value=value), self.assertRaises(InvalidProgram):
                 Program(value)
@@ -424,9 +437,10 @@ class Errors(unittest.TestCase):
                 Program(value, cells={"x": "a"}, answers={})
 
     def test_cells(self):
-        wrong = [value for value in others() if value is not None and value != {} and value != {"a": "b"}] + tuples() + no_names()
+        wrong = [value for value in all_but() if value not in (None, {}, {"a": "b"})]
         wrong += [{name: "a"} for name in no_names()] + [{"x": value} for value in no_values() + others() + tuples()]
-        wrong += [{"x": "a", "y": "a b"}, {"x": "a", 1: "a"}, {("x",): "a"}, {None: "a"}, {True: "a"}, {"x": ("a",)}, (), [("x", "a")]]
+        wrong += [{"x": "a", "y": "a b"}, {"x": "a", 1: "a"}, {("x",): "a"}, {None: "a"}, {True: "a"}, {"x": ("a",)},
+            (), [("x", "a")]]
         for value in wrong:
             with self.subTest(value=value), self.assertRaises(InvalidProgram):
                 Program((SEND,), cells=value)
@@ -450,8 +464,9 @@ class Errors(unittest.TestCase):
         self.assertEqual(PAIR.threads, (SEND, LOOK))
 
     def test_orders(self):
-        wrong = [value for value in others() if value != ()] + tuples() + no_names() + [
-            [0], [], 0, "0", ("0",), (2,), (-1,), (True,), (False,), (0, None), (0, (0,)), ((0,),), (0, 10 ** 30), {0: 0},
+        wrong = all_but() + [
+            [0], [], 0, "0", ("0",), (2,), (-1,), (True,), (False,), (0, None), (0, (0,)), ((0,),), (0, 10 ** 30),
+            {0: 0},
             nested(0, 11), (0, Program(((),))),
         ]
         for value in wrong:
@@ -460,7 +475,7 @@ class Errors(unittest.TestCase):
 
     def test_held_and_after(self):
         run = PAIR((0,))
-        names = [value for value in others() + tuples() + no_names()]
+        names = all_but()
         check_errors(self, run.held, [(0, self.NUMBERS, InvalidNumber), ("a", names, InvalidOperation)])
         check_errors(self, run.after, [(0, self.NUMBERS, InvalidNumber)])
         with self.assertRaises(InvalidOperation):

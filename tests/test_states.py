@@ -9,7 +9,7 @@ from orderlymoves.play import states as module
 from orderlymoves.play.programs import Program
 from orderlymoves.play.states import clash, end_order, ends, is_clash, is_orderly, outcome, states
 from orders import PlainRun, all_orders
-from samples import nested, no_names, others, some_program, tuples
+from samples import all_but, nested, some_program
 
 SHOW = ("show", "a")
 PUT = ("put", "a")
@@ -38,7 +38,8 @@ class Interface(unittest.TestCase):
 
 class States(unittest.TestCase):
     def test_of_a_single_thread(self):
-        for code, many in (((), 1), ((SHOW,), 2), ((SHOW,) * 60, 61), ((PUT, GET), 3), ((GET,), 1), ((PUT, GET, GET), 3),
+        for code, many in (((), 1), ((SHOW,), 2), ((SHOW,) * 60, 61), ((PUT, GET), 3), ((GET,), 1),
+            ((PUT, GET, GET), 3),
                            ((("copy", "b", "a"),), 1), ((READ, WRITE), 3), ((choice((SHOW,), (SHOW, SHOW)),), 3)):
             self.assertEqual(states(Program((code,))), many)
 
@@ -54,7 +55,8 @@ class States(unittest.TestCase):
         self.assertEqual(states(Program(((choice((READ,), (READ,)), READ),), answers={("p", "a"): True})), 3)
         # Which code of an if a thread is in is a part of its place.
         same = (("read", "a", "x"), choice((SHOW,), (SHOW,)))
-        program = Program((same, (("write", "x", "a"), ("write", "x", "x"))), answers={("p", "a"): True, ("p", "x"): True})
+        program = Program((same, (("write", "x", "a"), ("write", "x", "x"))),
+            answers={("p", "a"): True, ("p", "x"): True})
         self.assertEqual(states(program), plain_states(program))
 
     def test_the_place_in_an_if_counts(self):
@@ -76,7 +78,8 @@ class States(unittest.TestCase):
         own = (READ, choice((("copy", "b", "c"), ("copy", "b", "d")), (("copy", "c", "c"),)), ("copy", "a", "e"))
         either = Program((own, (("write", "x", "b"),)), cells={"x": "c"})
         self.assertEqual(states(either), 4)
-        kept = Program((((("read", "c", "x"), ("copy", "c", "e"), ("copy", "d", "d"))), (("write", "x", "d"),)), cells={"x": "c"})
+        kept = Program((((("read", "c", "x"), ("copy", "c", "e"), ("copy", "d", "d"))), (("write", "x", "d"),)),
+            cells={"x": "c"})
         self.assertEqual(states(kept), 4)
 
     def test_a_cell_that_has_its_content_again(self):
@@ -173,12 +176,14 @@ class Clashes(unittest.TestCase):
 
     def test_orders_that_are_judged(self):
         for order, right in (((0, 0, 1), True), ((0, 0), False), ((0, 1), False), ((), False), ((0, 0, 1, 0), False),
-                             ((0, 0, 1, 1), False), ((1,), False), ((0, 0, 0, 0), False), ((0, 0, 2), False), ((0, 0, -1), False)):
+                             ((0, 0, 1, 1), False), ((1,), False), ((0, 0, 0, 0), False), ((0, 0, 2), False),
+                             ((0, 0, -1), False)):
             self.assertIs(is_clash(PAIR, order), right)
 
     def test_every_other_value(self):
-        many = [value for value in others() + tuples() + no_names() if value != ()]
-        for value in many + [[0, 0, 1], (0, False, True), (0, 0, True), (False, 0, 1), "001", (0, 0, "1"), ((0, 0, 1),), {0: 1},
+        many = all_but()
+        for value in many + [[0, 0, 1], (0, False, True), (0, 0, True), (False, 0, 1), "001", (0, 0, "1"), ((0, 0, 1),),
+            {0: 1},
                              (0, 0, None), nested((0, 0, 1), 10), (0,) * 201, (0, 0, 1) + (1,) * 198]:
             self.assertIs(is_clash(PAIR, value), False, value)
             self.assertIs(is_clash(Program(((), ())), value), False, value)
@@ -217,7 +222,7 @@ class Ends(unittest.TestCase):
                 self.assertEqual((run.is_end, run.shown), (True, shown))
 
     def test_there_is_none(self):
-        wrong = others() + tuples() + no_names() + [((), ("c",)), ((), ()), (), ((),), [(), ("a",)], ((), ["a"]), (((), ("a",)),),
+        wrong = all_but() + [((), ("c",)), ((), ()), (), ((),), [(), ("a",)], ((), ["a"]), (((), ("a",)),),
                                                     ((), ("x.1",)), ((), ("a", "a"))]
         for shown in wrong:
             with self.subTest(shown=shown), self.assertRaises(InvalidOperation):
@@ -271,7 +276,7 @@ class Promises(unittest.TestCase):
 
 class Errors(unittest.TestCase):
     def test_what_is_no_program(self):
-        wrong = [value for value in others() + tuples() + no_names() if not isinstance(value, Program)]
+        wrong = all_but(Program)
         for value in wrong + [PAIR.threads, PAIR(()), [PAIR], (PAIR,)]:
             for call in (states, clash, is_orderly, ends, outcome):
                 with self.subTest(value=value), self.assertRaises(InvalidProgram):

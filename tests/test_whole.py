@@ -62,7 +62,8 @@ class Standing(unittest.TestCase):
                 ahead, behind, threads, answers = some_surroundings(rng, one, private)
                 self.assertLessEqual(set(used_first(behind)) & {*one.registers, *other.registers}, set(one.keeps))
                 place = rng.randint(0, len(threads))
-                first, second = (self.program(ahead + stretch.code + behind, threads, place, answers) for stretch in (one, other))
+                first, second = (self.program(ahead + stretch.code + behind, threads, place,
+                    answers) for stretch in (one, other))
                 shown = shown_by(first)
                 if shown is not None:
                     met[len(threads)] += 1
@@ -100,7 +101,8 @@ class Standing(unittest.TestCase):
             # A thread that does nothing stands behind the stretch's, and passes each letter on.
             many = sum(step[0] == "put" for step in two.threads[1])
             between = (("get", "m"), ("put", "m")) * many
-            first, second = (Program((surrounded(stretch, found).threads + (between,)), cells=two.cells, answers=two.answers)
+            first, second = (Program((surrounded(stretch, found).threads + (between,)), cells=two.cells,
+                answers=two.answers)
                              for stretch in (one, other))
             shown = shown_by(first)
             if shown is not None:
@@ -216,8 +218,10 @@ class Names(unittest.TestCase):
         for _ in range(150):
             one = large(some_code(rng, rng.randint(0, 8), 0), ("a", "b"))
             new = self.renamed(one)
-            self.assertEqual(needed_reads(new), tuple(sorted((self.CELLS[cell], number) for cell, number in needed_reads(one))))
-            self.assertEqual(sorted(triple[1] for triple in due_writes(new)), sorted(triple[1] for triple in due_writes(one)))
+            self.assertEqual(needed_reads(new),
+                tuple(sorted((self.CELLS[cell], number) for cell, number in needed_reads(one))))
+            self.assertEqual(sorted(triple[1] for triple in due_writes(new)),
+                sorted(triple[1] for triple in due_writes(one)))
             self.assertEqual(fewest(new), {self.CELLS[cell]: many for cell, many in fewest(one).items()})
             self.assertIs(may_stand(new, self.renamed_least(one)), True)
 
@@ -233,7 +237,8 @@ class Names(unittest.TestCase):
             codes = [large(some_code(rng, rng.randint(0, 3), 0)) for _ in range(2)]
             one = Program(tuple(stretch.code + (("show", "a"),) for stretch in codes))
             two = Program(tuple(self.renamed(stretch).code + (("show", "yes"),) for stretch in codes))
-            self.assertEqual((states(one), is_orderly(one), len(ends(one))), (states(two), is_orderly(two), len(ends(two))))
+            self.assertEqual((states(one), is_orderly(one), len(ends(one))),
+                (states(two), is_orderly(two), len(ends(two))))
 
 
 class Together(unittest.TestCase):

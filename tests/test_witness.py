@@ -12,7 +12,8 @@ from orderlymoves.judge.stand import fault, may_stand
 from orderlymoves.judge.witness import Surrounding, is_witness, surrounded, witness
 from orderlymoves.play.programs import Program
 from orderlymoves.play.states import is_orderly, outcome, states
-from samples import CELLS, REGISTERS, check_errors, large, no_answers, no_names, no_values, others, some_code, some_pairs, tuples
+from samples import (
+    CELLS, REGISTERS, all_but, check_errors, large, no_answers, no_names, no_values, some_code, some_pairs)
 from test_programs import wrong_codes
 
 BEHIND = Stretch((("put", "a"), ("write", "x", "a")))
@@ -57,19 +58,21 @@ class Surroundings(unittest.TestCase):
         cells["x"] = answers["p", "b"] = None
         found.cells["x"] = found.answers["p", "b"] = None
         found.cells.clear()
-        self.assertEqual((found.cells, found.answers), ({"x": "a", "y": "f(x.1)"}, {("p", "b"): True, ("q", "a"): False}))
+        self.assertEqual((found.cells, found.answers),
+            ({"x": "a", "y": "f(x.1)"}, {("p", "b"): True, ("q", "a"): False}))
         for name in ("partner", "behind", "cells", "answers"):
             with self.subTest(name), self.assertRaises(AttributeError):
                 setattr(found, name, None)
 
     def test_equality(self):
         parts = (LOOK.partner, (SHOW,), {"x": "a", "y": "b"}, {("p", "a"): True})
-        self.assertEqual(Surrounding(*parts), Surrounding(LOOK.partner, (SHOW,), {"y": "b", "x": "a"}, {("p", "a"): True}))
+        self.assertEqual(Surrounding(*parts),
+            Surrounding(LOOK.partner, (SHOW,), {"y": "b", "x": "a"}, {("p", "a"): True}))
         for at, other in enumerate(((), (), {"x": "a"}, {("p", "a"): False})):
             changed = Surrounding(*parts[:at], other, *parts[at + 1:])
             self.assertIs(changed == Surrounding(*parts), False)
             self.assertIs(changed != Surrounding(*parts), True)
-        for value in others() + tuples() + no_names() + [parts, surrounded(EMPTY, LOOK)]:
+        for value in all_but() + [parts, surrounded(EMPTY, LOOK)]:
             self.assertIs(Surrounding(*parts) == value, False)
 
     def test_text(self):
@@ -87,8 +90,8 @@ class Surroundings(unittest.TestCase):
             self.assertEqual(Surrounding((), code, {}, {}).behind, code)
 
     def test_wrong_arguments(self):
-        cells = [value for value in others() if value not in ({}, {"a": "b"})] + tuples() + no_names()
-        cells += [{name: "a"} for name in no_names()] + [{"x": value} for value in no_values()] + [{"x": 1}, {1: "a"}, ()]
+        cells = [value for value in all_but() if value not in ({}, {"a": "b"})] + [{"x": 1}, {1: "a"}, ()]
+        cells += [{name: "a"} for name in no_names()] + [{"x": value} for value in no_values()]
         check_errors(self, Surrounding, [
             ((), wrong_codes(), InvalidProgram), ((), wrong_codes(), InvalidProgram), ({}, cells, InvalidProgram),
             ({}, no_answers(), InvalidProgram),
@@ -113,9 +116,9 @@ class Surroundings(unittest.TestCase):
             surrounded(ifs, Surrounding((), (choice("p", "a"),) * 4, {}, {}))
 
     def test_wrong_arguments_of_surrounded(self):
-        surroundings = [value for value in others() if not isinstance(value, Surrounding)] + tuples() + no_names()
+        surroundings = all_but(Surrounding)
         check_errors(self, surrounded, [
-            (AHEAD, [value for value in others() if not isinstance(value, Stretch)] + tuples() + no_names(), InvalidStretch),
+            (AHEAD, all_but(Stretch), InvalidStretch),
             (LOOK, surroundings + [surrounded(AHEAD, LOOK), (LOOK,)], InvalidOperation),
         ])
 
@@ -145,7 +148,8 @@ class Witnesses(unittest.TestCase):
 
     def test_bare_accesses(self):
         put, get = ("put", "a"), ("get", "g")
-        for one in ((put, get, READ), (READ, put, get), (READ, put, get, READ), (WRITE, put, get, WRITE), (put, get), (get, put)):
+        for one in ((put, get, READ), (READ, put, get), (READ, put, get, READ), (WRITE, put, get, WRITE), (put, get),
+                (get, put)):
             for access in (READ, WRITE, ("read", "r", "y"), ("write", "y", "a")):
                 for at in range(len(one) + 1):
                     other = one[:at] + (access,) + one[at:]
@@ -160,7 +164,8 @@ class Witnesses(unittest.TestCase):
         self.assertEqual(self.seen((READ,), (WRITE,)).partner[-1][::2], ("read", "x"))
 
     def test_letters_of_unlike_kinds_and_values(self):
-        for one, other in itertools.product(itertools.product((("put", "a"), ("put", "b"), ("get", "c")), repeat=2), repeat=2):
+        for one, other in itertools.product(itertools.product((("put", "a"), ("put", "b"), ("get", "c")), repeat=2),
+                repeat=2):
             if one == other:
                 self.assertIsNone(witness(Stretch(one), Stretch(other)))
             else:
@@ -183,7 +188,8 @@ class Witnesses(unittest.TestCase):
             ((WRITE,), ()), ((WRITE,), (write,)), ((WRITE, put), (put, WRITE)), ((WRITE, put), (write, put)),
             ((WRITE, put, get, write), (WRITE, put, get, WRITE)), ((WRITE, put, get, write), (write, put, get, write)),
             ((WRITE, put, get, write, put), (WRITE, put, get, WRITE, put)), ((put, WRITE), (put, write)),
-            ((get, WRITE, put), (get, put)), ((READ, put, get, WRITE, put, get, write), (READ, put, get, write, put, get, write)),
+            ((get, WRITE, put), (get, put)),
+            ((READ, put, get, WRITE, put, get, write), (READ, put, get, write, put, get, write)),
         ):
             self.seen(one, other)
 
@@ -195,8 +201,18 @@ class Witnesses(unittest.TestCase):
         self.seen((READ, put, get, READ), (READ, put, get), ("r",))
         self.seen((READ, put, get, READ, put, get, READ), (READ, put, get, READ, put, get), ("r",))
 
+    def test_answers_for_what_others_have_written(self):
+        turn, ends = (READ, ("put", "a"), ("get", "g")), {True: (), False: ()}
+        for many in (1, 2, 3):
+            one = turn * many + (READ,)
+            for answer in (True, False):
+                codes = {**ends, answer: (("copy", "q", "r"),)}
+                found = self.seen(one, one + (choice("p", "r", codes[True], codes[False]),), ("q",))
+                self.assertEqual(found.answers, {("p", f"x.{many + 1}"): answer})
+
     def test_contents_of_private_cells(self):
-        for one, other in (((), (WRITE,)), ((WRITE,), ()), ((WRITE,), (("write", "x", "b"),)), ((READ,), (READ, WRITE))):
+        for one, other in (((), (WRITE,)), ((WRITE,), ()), ((WRITE,), (("write", "x", "b"),)),
+                ((READ,), (READ, WRITE))):
             self.seen(one, other, private=("x",))
             self.seen(one + (("put", "a"),), other + (("put", "a"),), private=("x", "y"))
         self.seen((("write", "y", "a"),), (("write", "y", "a"), WRITE), private=("x",))
@@ -210,7 +226,8 @@ class Witnesses(unittest.TestCase):
 
     def test_names_that_the_witness_could_want(self):
         used = ("a", "b", "c", "m")
-        for one, other in itertools.permutations(((), (("read", "m", "m"),), (("write", "m", "m"),), (("put", "m"),), (("get", "m"),)), 2):
+        for one, other in itertools.permutations(((), (("read", "m", "m"),), (("write", "m", "m"),), (("put", "m"),),
+                (("get", "m"),)), 2):
             for keeps in ((), ("m",), used):
                 if may_stand(Stretch(one, keeps), Stretch(other, keeps)):
                     continue
@@ -285,7 +302,8 @@ class Judged(unittest.TestCase):
         one, other = Stretch((WRITE,)), EMPTY
         behind = (("read", "m", "x"), SHOW)
         self.assertIs(self.judged(one, other, ((), behind, {}, {}), ("x",)), True)
-        for code in ((choice("p", "a", (("read", "m", "x"),)),), (choice("p", "a", (), (choice("q", "a", (WRITE,)),)),)):
+        for code in ((choice("p", "a", (("read", "m", "x"),)),),
+                (choice("p", "a", (), (choice("q", "a", (WRITE,)),)),)):
             waiting = (("get", "m"),) + code
             self.assertIs(self.judged(one, other, (waiting, behind, {}, {})), True)
             self.assertIs(self.judged(one, other, (waiting, behind, {}, {}), ("x",)), False)
@@ -307,12 +325,17 @@ class Judged(unittest.TestCase):
         constant = ("set", "c", "f", ())
         for behind, right in (
             ((("show", "c"),), False), ((constant, ("show", "c")), True), ((("show", "c"), constant), False),
-            ((choice("p", "a"),), False), ((choice("p", "k"),), True), ((choice("p", "k", (constant,)), ("show", "c")), False),
-            ((choice("p", "k", (), (constant,)), ("show", "c")), False), ((choice("p", "k", (constant,), (constant,)), ("show", "c")), True),
-            ((choice("p", "k", (constant, ("show", "c")), ()),), True), ((choice("p", "k", (("show", "c"),), (constant,)),), False),
+            ((choice("p", "a"),), False), ((choice("p", "k"),), True),
+            ((choice("p", "k", (constant,)), ("show", "c")), False),
+            ((choice("p", "k", (), (constant,)), ("show", "c")), False),
+            ((choice("p", "k", (constant,), (constant,)), ("show", "c")), True),
+            ((choice("p", "k", (constant, ("show", "c")), ()),), True),
+            ((choice("p", "k", (("show", "c"),), (constant,)),), False),
             ((("write", "y", "c"),), False), ((("write", "y", "k"),), True), ((("set", "d", "f", ("k", "c")),), False),
-            ((("set", "d", "f", ("k",)), ("show", "d")), True), ((("copy", "d", "c"),), False), ((("copy", "c", "c"),), False),
-            ((("set", "c", "f", ("c",)),), False), ((("read", "c", "y"), ("show", "c")), True), ((("get", "c"), ("show", "c")), True),
+            ((("set", "d", "f", ("k",)), ("show", "d")), True), ((("copy", "d", "c"),), False),
+            ((("copy", "c", "c"),), False),
+            ((("set", "c", "f", ("c",)),), False), ((("read", "c", "y"), ("show", "c")), True),
+            ((("get", "c"), ("show", "c")), True),
             ((("put", "k"),), True), ((("put", "c"),), False), ((("copy", "c", "k"), ("put", "c")), True),
         ):
             found = self.judged(one.keeping(("k",)), other.keeping(("k",)), (partner, behind, {}, {}))
@@ -331,7 +354,8 @@ class Judged(unittest.TestCase):
 
     def test_no_bound_of_states(self):
         surrounding = Surrounding((("read", "m", "x"),) + (SHOW,) * 50, (("get", "c"),) + (("show", "c"),) * 50, {}, {})
-        shows = Surrounding((("read", "m", "x"),) + (SHOW,) * 50, (("set", "c", "f", ()),) + (("show", "c"),) * 50, {}, {})
+        shows = Surrounding((("read", "m", "x"),) + (SHOW,) * 50, (("set", "c", "f", ()),) + (("show", "c"),) * 50, {},
+            {})
         other = Stretch((WRITE,))
         with self.assertRaises(TooMany):
             states(surrounded(other, shows))
@@ -342,8 +366,9 @@ class Judged(unittest.TestCase):
         self.assertIs(is_witness(Stretch((("get", "a"),)), EMPTY, long), False)
 
     def test_every_other_value(self):
-        for value in others() + tuples() + no_names() + [
-                (LOOK,), [LOOK], {"a": LOOK}, (LOOK.partner, (), {"x": "old"}, {}), surrounded(AHEAD, LOOK), surrounded(AHEAD, LOOK)(())]:
+        for value in all_but() + [
+                (LOOK,), [LOOK], {"a": LOOK}, (LOOK.partner, (), {"x": "old"}, {}), surrounded(AHEAD, LOOK),
+                surrounded(AHEAD, LOOK)(())]:
             self.assertIs(is_witness(AHEAD, BEHIND, value), False, value)
             self.assertIs(is_witness(BEHIND, AHEAD, value), False, value)
 
@@ -384,20 +409,23 @@ class Judged(unittest.TestCase):
 
 
 class Errors(unittest.TestCase):
-    STRETCHES = [value for value in others() if not isinstance(value, Stretch)] + tuples() + no_names() + [(), (("put", "a"),), LOOK]
-    SETS = others() + tuples() + no_names() + ["x", ["x"], {"x": True}, ("y", "x"), AHEAD]
+    STRETCHES = all_but(Stretch) + [(), (("put", "a"),), LOOK]
+    SETS = all_but() + ["x", ["x"], {"x": True}, ("y", "x"), AHEAD]
 
     def test_the_first_that_applies(self):
         for other in (BEHIND, BEHIND.keeping(("a",)), large((("put", "a"),) * 7)):
             check_errors(self, lambda one, two, private: witness(one, two, private=private), [
-                (AHEAD, self.STRETCHES, InvalidStretch), (other, self.STRETCHES, InvalidStretch), ((), self.SETS, InvalidOperation)])
+                (AHEAD, self.STRETCHES, InvalidStretch), (other, self.STRETCHES, InvalidStretch),
+                ((), self.SETS, InvalidOperation)])
             for value in (LOOK, None, 1, ()):
                 check_errors(self, lambda one, two, private: is_witness(one, two, value, private=private), [
-                    (AHEAD, self.STRETCHES, InvalidStretch), (other, self.STRETCHES, InvalidStretch), ((), self.SETS, InvalidOperation)])
+                    (AHEAD, self.STRETCHES, InvalidStretch), (other, self.STRETCHES, InvalidStretch),
+                    ((), self.SETS, InvalidOperation)])
 
     def test_kept_registers_that_are_not_equal(self):
         over = large((("put", "a"),) * 7)
-        for one, other in ((AHEAD, BEHIND.keeping(("a",))), (over, AHEAD.keeping(("a",))), (AHEAD.keeping(("a",)), over)):
+        for one, other in ((AHEAD, BEHIND.keeping(("a",))), (over, AHEAD.keeping(("a",))),
+                (AHEAD.keeping(("a",)), over)):
             with self.assertRaises(InvalidOperation):
                 witness(one, other)
             for value in (LOOK, None, ()):
@@ -407,7 +435,8 @@ class Errors(unittest.TestCase):
     def test_stretches_that_are_not_taken(self):
         put = ("put", "a")
         wide = large(tuple(("read", "a", cell) for cell in "uvwxy"))
-        for over in (large((READ,) * 25), large((put,) * 7), wide, large((("set", "a", "f", ("a",)),) * 7), large((choice("p", "a"),) * 4)):
+        for over in (large((READ,) * 25), large((put,) * 7), wide, large((("set", "a", "f", ("a",)),) * 7),
+                large((choice("p", "a"),) * 4)):
             for one, other in ((over, EMPTY), (EMPTY, over), (over, over), (AHEAD, over)):
                 with self.assertRaises(InvalidStretch):
                     witness(one, other)

@@ -29,23 +29,16 @@ def moved(stretch, index, by):
 
 def can_drop(stretch, index, *, private=()):
     """Whether the stretch without a statement may stand for it."""
-    _check_index(stretch, index)
-    check_private(private)
     return may_stand(stretch, without(stretch, index), private=private)
 
 
 def can_double(stretch, index, *, private=()):
     """Whether the stretch in which a statement stands twice may stand for it."""
-    _check_index(stretch, index)
-    check_private(private)
     return may_stand(stretch, doubled(stretch, index), private=private)
 
 
 def can_move(stretch, index, by, *, private=()):
     """Whether the stretch in which a statement has moved may stand for it."""
-    _check_index(stretch, index)
-    _check_by(stretch, index, by)
-    check_private(private)
     return may_stand(stretch, moved(stretch, index, by), private=private)
 
 

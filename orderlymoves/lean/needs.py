@@ -28,6 +28,8 @@ def fewest(stretch, *, private=()):
 def least(stretch, *, private=()):
     """A straight stretch that may stand for a stretch, and has just the fewest reads and writes."""
     way = _only_way(stretch, private)
+    if is_least(stretch, private=private):
+        return stretch
     reads = [chains(way, cell)[number - 1][0] for cell, number in _needed(way)]
     writes = [last for triple, last in _due(way)]
     remade = Remade(stretch, way, reads + writes)
@@ -98,10 +100,11 @@ class Remade:
     def add_end(self):
         """Adds what gives the kept registers their values."""
         changed = [name for name in self.origin.keeps if self.place_of(name) != name]
-        # Two of them can have changed places, so all are saved ahead of the first one that is set.
         for name in changed:
             source = self.place_of(name)
-            self.made.append(("copy", self.new_place(name), source))
+            # A register that is set here itself could be set before its value of the beginning is copied.
+            if source in changed:
+                self.made.append(("copy", self.new_place(name), source))
         self.made.extend([("copy", name, self.place_of(name)) for name in changed])
 
     def place_of(self, name):

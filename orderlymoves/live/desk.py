@@ -3,11 +3,9 @@
 from orderlymoves.base.statements import flattened, used_first
 from orderlymoves.base.values import is_name, is_whole
 from orderlymoves.errors import InvalidNumber, InvalidOperation, NothingToUndo, UnknownName
-from orderlymoves.judge.cases import check_pair
 from orderlymoves.live.pieces import cells_of_others, check_position, check_standing, exchanged
 from orderlymoves.play.programs import Program, check_thread
-from orderlymoves.play.states import check_program, is_orderly, outcome
-from orderlymoves.walk.ways import check_private, check_stretch
+from orderlymoves.play.states import is_orderly, outcome
 
 
 class Sheet:
@@ -23,7 +21,6 @@ class Desk:
     """A desk with an orderly program, and with rules."""
 
     def __init__(self, program):
-        check_program(program)
         if not is_orderly(program):
             raise InvalidOperation("the program is not orderly")
         self._first = program
@@ -56,7 +53,6 @@ class Desk:
         """Adds a rule: the second stretch may stand for the first one."""
         if not is_name(name) or name in self._sheet.known:
             raise InvalidOperation("a rule has a name that is not used")
-        check_pair(one, other, private)
         check_standing(one, other, private)
         known = self.rules
         known[name] = (one, other, private)

@@ -105,6 +105,12 @@ class Run:
         self._program = program
         self._order = order
         self._moment = moment
+        self._shown = tuple(moment.rows)
+        self._cells = _ascending(moment.contents)
+        self._lines = tuple(moment.queues)
+        self._next_steps = tuple([moment.step_of(thread) for thread in range(len(program))])
+        self._ready = moment.movable()
+        self._clashing = moment.clashes()
 
     @property
     def program(self):
@@ -116,31 +122,31 @@ class Run:
 
     @property
     def shown(self):
-        return self._moment.seen()
+        return self._shown
 
     @property
     def cells(self):
-        return {name: self._moment.contents[name] for name in sorted(self._moment.contents)}
+        return _ascending(self._cells)
 
     @property
     def lines(self):
-        return tuple(self._moment.queues)
+        return self._lines
 
     @property
     def next_steps(self):
-        return tuple([self._moment.step_of(thread) for thread in range(len(self._program))])
+        return self._next_steps
 
     @property
     def ready(self):
-        return self._moment.movable()
+        return self._ready
 
     @property
     def is_end(self):
-        return self._moment.movable() == ()
+        return self._ready == ()
 
     @property
     def clashing(self):
-        return self._moment.clashes()
+        return self._clashing
 
     def held(self, thread, name):
         """The value of a register of a thread."""
@@ -163,7 +169,7 @@ class Run:
         return isinstance(other, Run) and self._program == other._program and self._order == other._order
 
     def __str__(self):
-        return f"run of {len(self._order)} steps, {len(self._moment.movable())} ready"
+        return f"run of {len(self._order)} steps, {len(self._ready)} ready"
 
 
 class Machine:
@@ -195,7 +201,7 @@ class Moment:
 
     def identity(self):
         """What is equal for two moments just if they are the same state."""
-        worths = [tuple(sorted(held.items())) for held in self.worths]
+        worths = [tuple(sorted([(name, held[name]) for name in held])) for held in self.worths]
         contents = tuple(self.contents.values())
         return (tuple(self.spots), tuple(worths), contents, tuple(self.queues), tuple(self.rows))
 
@@ -235,7 +241,8 @@ class Moment:
 
     def stepped(self, thread):
         """The moment behind the next step of a thread."""
-        worths = [dict(held) for held in self.worths]
+        worths = list(self.worths)
+        worths[thread] = dict(worths[thread])
         made = Moment(self.machine, list(self.spots), worths, dict(self.contents), list(self.queues), list(self.rows))
         made.take_step(thread)
         made.settle(thread)
@@ -329,7 +336,7 @@ def _ascending(told):
 
 def _is_clash(one, other):
     """Whether two next steps are accesses to one cell, and one of them is a write."""
-    if one is None or other is None or len(one) == 1 or one[1:] != other[1:]:
+    if one is None or other is None or one[1:] != other[1:]:
         return False
     return "write" in (one[0], other[0])
 
